@@ -1,0 +1,1 @@
+"""Pagewright: text with macros made into lines and pages."""

@@ -1,0 +1,16 @@
+"""Integers as the conventions want them, and how a fraction is rounded."""
+
+INTEGER_END = 10 ** 60
+
+
+def is_int(value):
+    """Whether the value is an integer of at most sixty digits [0.1]."""
+    return isinstance(value, int) and not isinstance(value, bool) and abs(value) < INTEGER_END
+
+
+def rounded(over, under):
+    """The integer nearest to over / under, a half away from 0; `under` is above 0."""
+    size = (2 * abs(over) + under) // (2 * under)
+    if over < 0:
+        return -size
+    return size

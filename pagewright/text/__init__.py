@@ -1,0 +1,1 @@
+"""Signs, their sorts, and the tokens that are made of them."""
