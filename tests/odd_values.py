@@ -1,6 +1,10 @@
 """Values of all kinds that can be passed, for tests of what is refused [0.4]."""
 
+from pagewright.base.glue import Glue
 from pagewright.errors import InvalidSort
+from pagewright.macro.macros import Macro, Match
+from pagewright.macro.scopes import Scope
+from pagewright.text.reader import Reader
 from pagewright.text.sorts import Sorts
 
 DEEP = [[[[[[[["deep"]]]]]]]]
@@ -12,6 +16,7 @@ ODD_VALUES = (
     [], [1], ["word", "par"], [("word", "par")], DEEP, (DEEP,),
     {}, {"a": "letter"}, {1: 2}, {(): []}, {"a": DEEP},
     Sorts(), Sorts({"a": "other"}), InvalidSort("no sort"),
+    Glue(0), Reader(), Macro((), ()), Match((), (), 0), Scope(), Scope().state,
 )
 
 

@@ -58,3 +58,68 @@ def name_at(signs, at, sorts):
     while end < len(signs) and end < at + 60 and sorts[signs[end]] == "letter":
         end += 1
     return signs[at:end], "skip"
+
+
+class PlainReader:
+    """A reader that keeps the whole text, and looks at all of it again whenever it is asked for a token."""
+
+    def __init__(self, sorts):
+        self.sorts = dict(sorts)
+        self.text = ""
+        self.is_finished = False
+        self.state = "new"
+        self.line = 0
+        self.at = 0
+
+    def lines(self):
+        """The signs of all lines that can be read, each with its newline."""
+        parts = self.text.split("\n")
+        last = parts.pop()
+        if self.is_finished and last != "":
+            parts.append(last)
+        return [part.rstrip(" ") + "\n" for part in parts]
+
+    def waiting_part(self):
+        """What came of a line that cannot be read yet."""
+        return "" if self.is_finished else self.text.split("\n")[-1]
+
+    def is_at_rest(self):
+        return self.line == len(self.lines()) and self.waiting_part() == ""
+
+    def key(self):
+        """What two readers have in common exactly if they are equal."""
+        lines = self.lines()[self.line:]
+        unread = "".join(lines)[self.at:] + self.waiting_part()
+        return (sorted(self.sorts.items()), self.state, self.line, len(self.text), self.at, unread, self.is_finished)
+
+    def take(self):
+        while self.line < len(self.lines()):
+            signs = self.lines()[self.line]
+            place = (self.line, self.at)
+            token = self.token(signs)
+            if self.at >= len(signs):
+                self.line, self.at, self.state = self.line + 1, 0, "new"
+            if token is not None:
+                return (token, place)
+        return None
+
+    def token(self, signs):
+        sign = signs[self.at]
+        sort = self.sorts[sign]
+        self.at += 1
+        if sort == "escape":
+            name, self.state = name_at(signs, self.at, self.sorts)
+            self.at += len(name)
+            return ("word", name if name else "\n")
+        if sort in ("end", "comment"):
+            self.at = len(signs)
+            if sort == "end" and self.state != "skip":
+                return PARAGRAPH if self.state == "new" else BLANK
+        elif sort == "blank":
+            if self.state == "mid":
+                self.state = "skip"
+                return BLANK
+        elif sort != "ignored":
+            self.state = "mid"
+            return ("sign", sign, sort)
+        return None

@@ -11,21 +11,57 @@ FUNCTIONS = {
     "pagewright.text.sorts": {
         "is_sign": "(value)", "is_text": "(value)", "is_sort": "(value)", "is_token": "(value)",
     },
+    "pagewright.text.reader": {"tokens_of": "(text, sorts=None)", "placed_tokens": "(text, sorts=None)"},
     "pagewright.text.rows": {
         "is_row": "(value)", "is_balanced": "(row)", "depths": "(row)", "partner": "(row, index)",
         "first_unreadable": "(row, sorts=None)", "is_readable": "(row, sorts=None)", "text_of": "(row, sorts=None)",
     },
+    "pagewright.macro.macros": {
+        "macro_of": "(parameters, body, *, is_long=False)", "rows_of": "(macro)", "match_macro": "(macro, row, start)",
+        "put_back": "(macro, match)", "filled": "(macro, arguments)",
+    },
 }
 CONSTANTS = {
     "pagewright.base.lengths": {"POINT": 65536, "MAX_LENGTH": 2 ** 30 - 1},
+    "pagewright.base.glue": {"ORDERS": ("pt", "fil", "fill", "filll")},
     "pagewright.text.sorts": {
         "SORTS": ("escape", "open", "close", "end", "slot", "ignored", "blank", "letter", "other", "active", "comment"),
         "MAX_SIGNS": 20000,
     },
     "pagewright.text.rows": {"MAX_ROW": 5000},
+    "pagewright.macro.macros": {"MAX_SLOTS": 9},
+    "pagewright.macro.scopes": {
+        "KINDS": ("meaning", "number", "length", "glue", "row", "sort"), "MAX_REGISTER": 255, "MAX_LEVEL": 100,
+        "MAX_BEHIND": 100,
+    },
 }
-CLASSES = {"pagewright.text.sorts": {"Sorts": ("(self, changes=None)", {"with_sort": "(self, sign, sort)",
-                                                                         "signs_of": "(self, sort)"})}}
+# For each class: the methods with their arguments, the class methods, the properties, and what works by signs.
+CLASSES = {
+    ("pagewright.base.glue", "Glue"): (
+        {"__init__": "(self, natural, *, stretch=0, stretch_order=0, shrink=0, shrink_order=0)"}, {"of_text": "(text)"},
+        "natural stretch stretch_order shrink shrink_order text", "__add__ __mul__ __eq__ __str__",
+    ),
+    ("pagewright.text.sorts", "Sorts"): (
+        {"__init__": "(self, changes=None)", "with_sort": "(self, sign, sort)", "signs_of": "(self, sort)"}, {},
+        "changes", "__getitem__ __eq__ __str__",
+    ),
+    ("pagewright.text.reader", "Reader"): (
+        {"__init__": "(self, sorts=None)", "feed": "(self, piece)", "finish": "(self)", "take": "(self)",
+         "change": "(self, sign, sort)", "twin": "(self)"}, {},
+        "sorts state line is_finished is_at_rest", "__eq__ __str__",
+    ),
+    ("pagewright.macro.macros", "Macro"): (
+        {"__init__": "(self, slots, body, *, is_long=False)"}, {}, "slots body is_long head delimiters",
+        "__len__ __iter__ __eq__ __str__",
+    ),
+    ("pagewright.macro.macros", "Match"): ({"__init__": "(self, arguments, seams, stop)"}, {}, "", "__eq__"),
+    ("pagewright.macro.scopes", "Scope"): (
+        {"__init__": "(self, *, meanings=None)", "value_of": "(self, kind, key)",
+         "assign": "(self, kind, key, value, *, everywhere=False)", "enter": "(self, word='group')", "leave": "(self)",
+         "put_behind": "(self, token)", "twin": "(self)", "restore": "(self, state)"}, {},
+        "level words sorts state", "__eq__ __str__",
+    ),
+}
 
 
 class Interface(unittest.TestCase):
@@ -44,19 +80,19 @@ class Interface(unittest.TestCase):
                 self.assertEqual(getattr(import_module(module), name), value)
 
     def test_classes(self):
-        for module, classes in CLASSES.items():
-            for name, (signature, methods) in classes.items():
-                found = getattr(import_module(module), name)
-                self.assertEqual(found.__module__, module)
-                self.assertEqual(str(inspect.signature(found.__init__)), signature)
+        for (module, name), (methods, class_methods, properties, signs) in CLASSES.items():
+            found = getattr(import_module(module), name)
+            own = vars(found)
+            with self.subTest(name):
+                self.assertEqual((found.__module__, found.__name__), (module, name))
                 for method, told in methods.items():
-                    self.assertEqual(str(inspect.signature(vars(found)[method])), told)
-
-    def test_methods_of_sorts_are_its_own(self):
-        found = vars(getattr(import_module("pagewright.text.sorts"), "Sorts"))
-        for name in ("__init__", "__getitem__", "__eq__", "__str__", "with_sort", "signs_of", "changes"):
-            self.assertIn(name, found)
-        self.assertIsInstance(found["changes"], property)
+                    self.assertEqual(str(inspect.signature(own[method])), told)
+                for method, told in class_methods.items():
+                    self.assertIsInstance(own[method], classmethod)
+                    self.assertEqual(str(inspect.signature(getattr(found, method))), told)
+                for word in properties.split():
+                    self.assertIsInstance(own[word], property)
+                self.assertLessEqual(set(signs.split()), set(own))
 
 
 if __name__ == "__main__":

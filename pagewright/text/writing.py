@@ -58,8 +58,8 @@ def token_of(state, sign, sort):
 
 
 def state_behind(state, sort):
-    """The state behind a sign that is read alone, if its line goes on, and is no longer new."""
-    if sort == "ignored":
+    """The state behind a sign that is read alone, if its line goes on."""
+    if sort == "ignored" or (sort == "blank" and state == "new"):
         return state
     if sort == "blank":
         return "skip"

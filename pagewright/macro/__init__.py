@@ -1,0 +1,1 @@
+"""Macros, the scopes that hold their meanings, and how they are expanded."""
