@@ -20,6 +20,20 @@ FUNCTIONS = {
         "macro_of": "(parameters, body, *, is_long=False)", "rows_of": "(macro)", "match_macro": "(macro, row, start)",
         "put_back": "(macro, match)", "filled": "(macro, arguments)",
     },
+    "pagewright.macro.expander": {"standard_meanings": "()"},
+    "pagewright.font.fonts": {
+        "set_word": "(font, word)", "settled": "(font, left, right)", "letters_of": "(pieces)", "width_of": "(font, pieces)",
+        "endless_word": "(font)", "ending_paper": "(font)", "is_ending_paper": "(font, value)",
+    },
+    "pagewright.font.hyphens": {
+        "is_pattern": "(value)", "signs_of": "(pattern)", "numbers_of": "(pattern)", "pattern_text": "(signs, numbers)",
+        "are_alike": "(one, other, letters)", "least_unlike": "(one, other, letters)",
+        "idle_patterns": "(patterns, letters)",
+    },
+    "pagewright.box.items": {
+        "is_item": "(value)", "are_row_items": "(value)", "are_column_items": "(value)", "width_of": "(item)",
+        "height_of": "(item)", "depth_of": "(item)", "letters_of": "(items)",
+    },
 }
 CONSTANTS = {
     "pagewright.base.lengths": {"POINT": 65536, "MAX_LENGTH": 2 ** 30 - 1},
@@ -34,6 +48,14 @@ CONSTANTS = {
         "KINDS": ("meaning", "number", "length", "glue", "row", "sort"), "MAX_REGISTER": 255, "MAX_LEVEL": 100,
         "MAX_BEHIND": 100,
     },
+    "pagewright.macro.expander": {
+        "WAITS": "waits",
+        "COMMANDS": ("after", "keep", "name", "show", "digits", "value", "iftrue", "iffalse", "ifnumber", "iflength",
+                     "ifodd", "ifsame", "ifsign", "ifcase", "else", "or", "fi"),
+    },
+    "pagewright.font.fonts": {"MAX_SIGNS": 128, "MAX_WORD": 60, "MAX_STEPS": 10000},
+    "pagewright.font.hyphens": {"MAX_PATTERNS": 100, "MAX_PATTERN_SIGNS": 8, "MAX_EXCEPTIONS": 50, "MAX_LETTERS": 60},
+    "pagewright.box.items": {"MAX_PENALTY": 10000, "MAX_ITEMS": 2000},
 }
 # For each class: the methods with their arguments, the class methods, the properties, and what works by signs.
 CLASSES = {
@@ -60,6 +82,21 @@ CLASSES = {
          "assign": "(self, kind, key, value, *, everywhere=False)", "enter": "(self, word='group')", "leave": "(self)",
          "put_behind": "(self, token)", "twin": "(self)", "restore": "(self, state)"}, {},
         "level words sorts state", "__eq__ __str__",
+    ),
+    ("pagewright.macro.expander", "Expander"): (
+        {"__init__": "(self, scope, source=None, *, limit=1000)", "push": "(self, row)", "ask": "(self)", "take": "(self)",
+         "number": "(self)", "length": "(self)", "glue": "(self)", "whole": "(self, row)"}, {},
+        "steps many_open line", "",
+    ),
+    ("pagewright.font.fonts", "Font"): (
+        {"__init__": "(self, name, signs, program)", "measures": "(self, sign)"}, {}, "name signs program letters",
+        "__contains__ __len__ __iter__ __eq__ __str__",
+    ),
+    ("pagewright.font.hyphens", "Patterns"): (
+        {"__init__": "(self, patterns, *, exceptions=(), front=2, end=2)", "numbers": "(self, word)",
+         "points": "(self, word)", "parted": "(self, word)", "without": "(self, index)",
+         "with_limits": "(self, front, end)"}, {},
+        "patterns exceptions front end longest", "__contains__ __len__ __iter__ __eq__ __str__",
     ),
 }
 

@@ -1,0 +1,1 @@
+"""Items, and the boxes that hold them."""

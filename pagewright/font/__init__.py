@@ -1,0 +1,1 @@
+"""Fonts, and where words can be parted."""
