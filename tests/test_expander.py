@@ -128,7 +128,7 @@ class Examples(Checks):
         self.assertEqual(module.WAITS, "waits")
         self.assertEqual(COMMANDS, ("after", "keep", "name", "show", "digits", "value", "iftrue", "iffalse", "ifnumber", "iflength",
                                     "ifodd", "ifsame", "ifsign", "ifcase", "else", "or", "fi"))
-        self.assertEqual(sorted(COMMANDS), sorted([*machine.EXPANSIONS, *machine.TESTS]))
+        self.assertEqual(COMMANDS, (*machine.SIMPLE, *machine.TESTS, *machine.CLOSING))
 
     def test_standard_meanings(self):
         words = COMMANDS + ("endname", "number", "length", "glue", "row")

@@ -167,7 +167,7 @@ class Made(unittest.TestCase):
         for entry in (("kern", 0), ("kern", -5), ("kern", 2 ** 30 - 1), *[join("x1", stay) for stay in STAYS]):
             self.assertEqual(Font("some", PLAIN, {("a", "x1"): entry}).program, {("a", "x1"): entry})
         for entry in ((), ("kern",), ("kern", 2 ** 30), ("kern", None), ("kern", True), ("kern", 1, 2), ("join",), ("join", "a"), ("join", "c", "left"),
-                      ("join", "a", "Left"), ("join", "a", None), ("join", None, "left"), ("join", ["a"], "left"), ("join", "a", "left", 1), ["kern", 1],
+                      ("join", "a", "Left"), ("join", "a", None), ("join", "a", " "), ("join", "a", "b\n"), ("join", "a", "%"), ("letter", "x1"), ("join", None, "left"), ("join", ["a"], "left"), ("join", "a", "left", 1), ["kern", 1],
                       "kern", None, ("glue", 1), ("join", "a", ["left"])):
             self.refuse(program={("a", "b"): entry})
         for pair in ("ab", ("a",), ("a", "b", "a"), ("a", "c"), ("c", "a"), ("a", 1), (None, "a"), "a", 1, (("a",), "b")):
@@ -329,7 +329,7 @@ class Pieces(unittest.TestCase):
     def test_wrong_pieces(self):
         font = font_for({})
         for piece in ((), ("letter",), ("letter", "a", "b"), ("letter", ""), ("letter", " "), ("letter", 1), ("join", "a"), ("join", "", "a"), ("join", "abcde", ""),
-                      ("join", "a", None), ("join", "a", "b", "c"), ("kern",), ("kern", None), ("kern", True), ("kern", 2 ** 30), ("kern", 1, 1), ("glue", 1), ["letter", "a"],
+                      ("join", "a", None), ("join", "a", " "), ("join", "a", "b\n"), ("join", "a", "%"), ("letter", "x1"), ("join", "a", "b", "c"), ("kern",), ("kern", None), ("kern", True), ("kern", 2 ** 30), ("kern", 1, 1), ("glue", 1), ["letter", "a"],
                       "letter", None, (["letter"], "a")):
             with self.subTest(piece):
                 self.assertRaises(InvalidOperation, letters_of, (piece,))

@@ -44,6 +44,34 @@ class Files(unittest.TestCase):
                         file = PACKAGE.parent / (node.module.replace(".", "/") + ".py")
                         self.check_defined(file, [name.name for name in node.names])
 
+    def test_imports_make_no_rings(self):
+        imported = {}
+        for path in FILES:
+            name = ".".join(path.relative_to(PACKAGE.parent).with_suffix("").parts)
+            nodes = ast.walk(ast.parse(path.read_text()))
+            imported[name] = {node.module for node in nodes if isinstance(node, ast.ImportFrom)} - LIBRARY
+        while imported:
+            free = [name for name, others in imported.items() if not others & set(imported)]
+            self.assertTrue(free, sorted(imported))
+            for name in free:
+                del imported[name]
+
+    def test_names_of_properties_are_those_of_no_method(self):
+        properties, methods = set(), set()
+        for path in FILES:
+            for node in ast.walk(ast.parse(path.read_text())):
+                if isinstance(node, ast.ClassDef):
+                    for method in [inner for inner in node.body if isinstance(inner, ast.FunctionDef)]:
+                        told = [ast.unparse(decorator) for decorator in method.decorator_list]
+                        (properties if "property" in told else methods).add(method.name)
+        self.assertEqual(properties & methods, set())
+
+    def test_expressions_that_are_not_used(self):
+        for path in FILES:
+            for node in ast.walk(ast.parse(path.read_text())):
+                with self.subTest(path.name, line=getattr(node, "lineno", None)):
+                    self.assertNotIsInstance(node, (ast.GeneratorExp, ast.Lambda, ast.Yield, ast.Global, ast.Div, ast.AsyncFunctionDef))
+
     def check_defined(self, file, names):
         defined = set()
         for node in ast.parse(file.read_text()).body:

@@ -7,7 +7,7 @@ class Box(Frame):
     """A row or a column of items, with its sizes. It never changes."""
 
     def __init__(self, kind, sizes, content):
-        Frame.__init__(self, content)
+        super().__init__(content)
         self._kind = kind
         self._width, self._height, self._depth = sizes
         self._content = content

@@ -39,7 +39,7 @@ class Nodes:
         for signs in patterns:
             for end in range(1, len(signs) + 1):
                 self._beginnings[signs[:end]] = True
-        self.most_signs = max([0] + [len(signs) for signs in patterns])
+        self.most_signs = max([len(signs) for signs in patterns], default=0)
         self._behind = {}
         self._further = {}
         layers = [[self.behind("", STOP)]]
@@ -86,8 +86,10 @@ class Search:
         self._tables = (one.table(), other.table())
         self._hopes = {want: self._hopes_for(want) for want in ("unlike", "one", "other")}
         self._ends = {}
+        self._further = {}
         self._known = {}
-        self._known_layers = {}
+        self._marks = {}
+        self._known_marks = {}
 
     def _hopes_for(self, want):
         """The dict of pairs of a beginning of a pattern and an index in it, whose end can bring what is wanted."""
@@ -164,8 +166,6 @@ class Search:
         want, _, _, numbers = mark
         if self.is_settled(mark):
             return holds(want, numbers)
-        if not self._has_hope(mark):
-            return False
         key = (mark, min(left, self.nodes.most_signs))
         if key not in self._known:
             self._known[key] = self._finds_end(*key)
@@ -177,26 +177,40 @@ class Search:
         if left == 0:
             last = self.gone_on(mark, self.nodes.behind(node, STOP))
             return holds(last[0], last[3])
-        for further in self.nodes.further(node):
-            if self.can_end(self.gone_on(mark, further), left - 1):
+        for gone in self._gone_on_by_letters(mark):
+            if self.can_end(gone, left - 1):
                 return True
         return False
+
+    def _gone_on_by_letters(self, mark):
+        """The list of what a mark can be behind one more letter, but for what is without hope."""
+        if mark not in self._further:
+            found = [self.gone_on(mark, node) for node in self.nodes.further(mark[1])]
+            self._further[mark] = list({gone: True for gone in found if self._has_hope(gone)})
+        return self._further[mark]
 
     def can_mark(self, ahead, behind):
         """Whether a word with so many letters ahead of a mark and behind it can be as it is wanted there."""
         want = self.want_at(ahead, behind)
         most = self.nodes.most_signs
         key = (want, min(ahead, most), min(behind, most))
-        if key not in self._known_layers:
-            self._known_layers[key] = want is not None and self._finds_mark(*key)
-        return self._known_layers[key]
+        if key not in self._known_marks:
+            self._known_marks[key] = want is not None and self._finds_mark(*key)
+        return self._known_marks[key]
 
     def _finds_mark(self, want, ahead, behind):
         """As `can_mark`, for what is wanted."""
-        for node in self.nodes.layer(ahead):
-            if self.can_end(self.marked(want, node), behind):
+        for mark in self._hopeful_marks(want, ahead):
+            if self.can_end(mark, behind):
                 return True
         return False
+
+    def _hopeful_marks(self, want, ahead):
+        """The list of the marks that so many letters can lead to, but for those without hope."""
+        if (want, ahead) not in self._marks:
+            marks = [self.marked(want, node) for node in self.nodes.layer(ahead)]
+            self._marks[(want, ahead)] = [mark for mark in marks if self._has_hope(mark)]
+        return self._marks[(want, ahead)]
 
 
 class Words:

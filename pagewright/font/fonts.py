@@ -23,6 +23,16 @@ def is_font_sign(value):
     return " " not in value and "\n" not in value
 
 
+def is_font_letter(value):
+    """Whether the value is a letter of a font, of whatever font."""
+    return is_font_sign(value) and len(value) == 1
+
+
+def are_font_letters(value):
+    """Whether the value is a string of such letters, perhaps of none."""
+    return isinstance(value, str) and all([is_font_letter(letter) for letter in value])
+
+
 def is_name(value):
     """Whether the value is a name of a font."""
     if not isinstance(value, str) or not 1 <= len(value) <= MOST_LETTERS_OF_NAME:
@@ -209,7 +219,7 @@ def set_word(font, word):
                 pieces.append(entry)
         else:
             right = coming.pop()
-            coming.extend(reversed(joined(entry, left, right)))
+            coming.extend(joined(entry, left, right)[::-1])
     pieces.append(piece_of(coming[0]))
     return tuple(pieces)
 
@@ -229,8 +239,8 @@ def is_piece(value):
     if value[0] == "kern":
         return len(value) == 2 and is_length(value[1])
     if value[0] == "letter":
-        return len(value) == 2 and is_font_sign(value[1]) and len(value[1]) == 1
-    return value[0] == "join" and len(value) == 3 and is_font_sign(value[1]) and isinstance(value[2], str)
+        return len(value) == 2 and is_font_letter(value[1])
+    return value[0] == "join" and len(value) == 3 and is_font_sign(value[1]) and are_font_letters(value[2])
 
 
 def check_pieces(pieces):

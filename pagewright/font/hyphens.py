@@ -179,7 +179,7 @@ class Patterns:
     @property
     def longest(self):
         """The greatest number of signs of a pattern, 0 without patterns."""
-        return max([0] + [len(signs) for signs in self._numbers])
+        return max([len(signs) for signs in self._numbers], default=0)
 
     def table(self):
         """The dict from the signs of the patterns to their numbers."""

@@ -21,8 +21,8 @@ class Coming:
         # How many steps were made since the first token of the last new line.
         self.many_steps = 0
 
-    def first(self):
-        """The first coming entry, or None if no tokens come any more."""
+    def next_entry(self):
+        """The first coming entry, which is not taken, or None if no tokens come any more."""
         if self._ahead is not None:
             return self._ahead[0]
         if self._many_taken == len(self._told) and not self._is_told_one():
@@ -43,7 +43,7 @@ class Coming:
 
     def take(self):
         """Takes the first coming entry; None if no tokens come any more."""
-        entry = self.first()
+        entry = self.next_entry()
         if self._ahead is not None:
             self._ahead = self._ahead[1]
         elif entry is not None:
@@ -57,12 +57,16 @@ class Coming:
             self.greatest_line = line
             self.many_steps = 0
 
-    def must_take(self):
-        """Takes the first coming token, which must come."""
+    def must_take_entry(self):
+        """Takes the first coming entry, which must come."""
         entry = self.take()
         if entry is None:
             raise Fault("ended")
-        return entry[0]
+        return entry
+
+    def must_take(self):
+        """Takes the first coming token, which must come."""
+        return self.must_take_entry()[0]
 
     def put(self, entry):
         """Puts an entry ahead of all that comes."""

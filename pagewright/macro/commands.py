@@ -22,7 +22,7 @@ def shown(text):
 def expand_after(machine):
     """Expands the token behind the next one."""
     token = machine.must_take()
-    entry = machine.first()
+    entry = machine.next_entry()
     if entry is not None and machine.is_expandable(entry):
         machine.expand_first()
     machine.put((token, False))
@@ -76,3 +76,13 @@ def expand_value(machine):
         machine.put_tokens(shown(text_of_length(value)))
     else:
         machine.put_tokens(shown(str(value)))
+
+
+SIMPLE = {
+    "after": expand_after,
+    "keep": expand_keep,
+    "name": expand_name,
+    "show": expand_show,
+    "digits": expand_digits,
+    "value": expand_value,
+}

@@ -7,8 +7,6 @@ The open conditions of a machine are a tuple of pairs of a word and a branch, th
 from pagewright.errors import Fault
 from pagewright.macro.quantities import asked_behind_blanks, read_length, read_number
 
-CLOSING = ("else", "or", "fi")
-
 
 def always_holds(_):
     """The test of `iftrue`."""
@@ -78,6 +76,11 @@ def asked_token(machine):
     return entry[0]
 
 
+def told_case(machine):
+    """The number of `ifcase`."""
+    return read_number(machine)
+
+
 TESTS = {
     "iftrue": always_holds,
     "iffalse": never_holds,
@@ -86,7 +89,7 @@ TESTS = {
     "ifodd": holds_for_odd,
     "ifsame": holds_for_same,
     "ifsign": holds_for_signs,
-    "ifcase": read_number,
+    "ifcase": told_case,
 }
 
 
@@ -178,3 +181,10 @@ def close_condition(machine):
     """What `fi` does."""
     innermost(machine)
     close_from(machine, len(machine.conditions) - 1)
+
+
+CLOSING = {
+    "else": end_first_branch,
+    "or": end_case,
+    "fi": close_condition,
+}

@@ -98,23 +98,25 @@ class Expander:
 
     def _told_by(self, read):
         """What a function tells of the machine; `WAITS`, with all as it was, if a token must come."""
-        mark = self._machine.mark()
-        conditions = self._machine.conditions
+        machine = self._machine
+        mark = machine.mark()
+        conditions = machine.conditions
         try:
-            return read(self._machine)
+            return read(machine)
         except Waiting:
-            self._machine.go_back(mark)
-            self._machine.conditions = conditions
+            machine.go_back(mark)
+            machine.conditions = conditions
             return WAITS
 
     def whole(self, row):
         """The tokens that come if the row alone is asked for to its end."""
         check_row(row)
-        inner = Machine(self._machine.scope, None, self._machine.limit)
-        inner.many_steps = self._machine.many_steps
+        machine = self._machine
+        inner = Machine(machine.scope, None, machine.limit)
+        inner.many_steps = machine.many_steps
         inner.put_tokens(row)
         tokens = whole_expansion(inner)
-        self._machine.many_steps = inner.many_steps
+        machine.many_steps = inner.many_steps
         return tokens
 
     @property

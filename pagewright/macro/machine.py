@@ -2,32 +2,18 @@
 
 from pagewright.errors import Fault, TooMany
 from pagewright.macro.coming import Coming
-from pagewright.macro.commands import (
-    expand_after, expand_digits, expand_keep, expand_name, expand_show, expand_value,
-)
-from pagewright.macro.conditions import CLOSING, TESTS, close_condition, end_case, end_first_branch, open_condition
+from pagewright.macro.commands import SIMPLE
+from pagewright.macro.conditions import CLOSING, TESTS, open_condition
 from pagewright.macro.macros import Macro, filled_body
 from pagewright.macro.matching import Matching
 from pagewright.text.rows import MAX_ROW
-
-EXPANSIONS = {
-    "after": expand_after,
-    "keep": expand_keep,
-    "name": expand_name,
-    "show": expand_show,
-    "digits": expand_digits,
-    "value": expand_value,
-    "else": end_first_branch,
-    "or": end_case,
-    "fi": close_condition,
-}
 
 
 class Machine(Coming):
     """Coming tokens with all that their expansion needs."""
 
     def __init__(self, scope, source, limit):
-        Coming.__init__(self, source)
+        super().__init__(source)
         self.scope = scope
         self.limit = limit
         self.conditions = ()
@@ -56,26 +42,19 @@ class Machine(Coming):
         word = command_in(meaning)
         if word in CLOSING:
             return len(self.conditions) == 0 or self.conditions[-1][1] != "test"
-        return word in EXPANSIONS or word in TESTS
+        return word in SIMPLE or word in TESTS
 
     def asked(self):
         """Asks for an entry; None if no tokens come any more."""
-        entry = self.first()
+        entry = self.next_entry()
         while entry is not None and self.is_expandable(entry):
             self.expand_first()
-            entry = self.first()
+            entry = self.next_entry()
         return self.take()
 
     def must_ask(self):
         """Asks for an entry that must come."""
         entry = self.asked()
-        if entry is None:
-            raise Fault("ended")
-        return entry
-
-    def must_take_entry(self):
-        """Takes an entry that must come."""
-        entry = self.take()
         if entry is None:
             raise Fault("ended")
         return entry
@@ -87,17 +66,25 @@ class Machine(Coming):
         self._step()
         if isinstance(meaning, Macro):
             self._expand_macro(meaning)
-        elif command_in(meaning) in TESTS:
-            open_condition(self, command_in(meaning))
         else:
-            expand = EXPANSIONS[command_in(meaning)]
-            expand(self)
+            self._expand_command(command_in(meaning))
 
     def _step(self):
         """Counts one more step."""
         if self.many_steps >= self.limit:
             raise TooMany(self.limit)
         self.many_steps += 1
+
+    def _expand_command(self, word):
+        """Does what a command does behind its own token."""
+        if word in TESTS:
+            open_condition(self, word)
+        elif word in CLOSING:
+            close = CLOSING[word]
+            close(self)
+        else:
+            expand = SIMPLE[word]
+            expand(self)
 
     def _expand_macro(self, macro):
         """Takes what the macro takes, and puts its filled body ahead."""
@@ -110,7 +97,7 @@ class Machine(Coming):
 
     def _next_of_row(self, many):
         """Takes the next token that a macro looks at behind so many ones."""
-        if self.first() is None:
+        if self.next_entry() is None:
             raise Fault("ended")
         if many == MAX_ROW:
             raise TooMany(MAX_ROW)
