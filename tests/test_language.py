@@ -66,12 +66,6 @@ class Files(unittest.TestCase):
                         (properties if "property" in told else methods).add(method.name)
         self.assertEqual(properties & methods, set())
 
-    def test_expressions_that_are_not_used(self):
-        for path in FILES:
-            for node in ast.walk(ast.parse(path.read_text())):
-                with self.subTest(path.name, line=getattr(node, "lineno", None)):
-                    self.assertNotIsInstance(node, (ast.GeneratorExp, ast.Lambda, ast.Yield, ast.Global, ast.Div, ast.AsyncFunctionDef))
-
     def check_defined(self, file, names):
         defined = set()
         for node in ast.parse(file.read_text()).body:
