@@ -204,7 +204,7 @@ def set_word(font, word):
     if is_endless(font, word):
         raise InvalidOperation("the walk does not end")
     # What is at the cursor and behind it stands in the other order, so that its beginning is changed at an end.
-    coming = [(letter, letter, False) for letter in reversed(word)]
+    coming = [(letter, letter, False) for letter in reversed(list(word))]
     pieces = []
     steps = 0
     while len(coming) > 1:

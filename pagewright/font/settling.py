@@ -77,17 +77,17 @@ class Settling:
 def endless_search(font, settling):
     """The least word whose walk does not end, None if there is none; works out all reached pairs till then."""
     words = {letter: letter for letter in font.letters}
-    present = list(font.letters)
-    while len(present) > 0:
-        found = []
-        for sign in present:
-            for letter in font.letters:
-                behind = settling.sign_for(sign, letter)
-                if behind is None:
-                    return words[sign] + letter
-                # The words come in their order, so the first one that leads to a sign is the least one.
-                if behind not in words:
-                    words[behind] = words[sign] + letter
-                    found.append(behind)
-        present = found
+    # The words come in their order, so the first one that leads to a sign is the least one.
+    signs = list(font.letters)
+    at = 0
+    while at < len(signs):
+        sign = signs[at]
+        at += 1
+        for letter in font.letters:
+            behind = settling.sign_for(sign, letter)
+            if behind is None:
+                return words[sign] + letter
+            if behind not in words:
+                words[behind] = words[sign] + letter
+                signs.append(behind)
     return None

@@ -74,7 +74,7 @@ class Coming:
 
     def put_all(self, entries):
         """Puts entries ahead, in their order."""
-        for entry in reversed(entries):
+        for entry in reversed(list(entries)):
             self.put(entry)
 
     def put_tokens(self, tokens, is_still=False):

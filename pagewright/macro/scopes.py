@@ -100,7 +100,7 @@ def first_value(kind, key):
 
 def held_value(levels, place):
     """The value that holds at the last one of some levels, for a pair of a kind and a key."""
-    for values in reversed(levels):
+    for values in reversed(list(levels)):
         if place in values:
             return values[place]
     kind, key = place
