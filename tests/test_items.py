@@ -8,6 +8,7 @@ from pagewright.box import items as module
 from pagewright.box.frames import Frame
 from pagewright.box.items import (are_column_items, are_row_items, depth_of, height_of, is_item, letters_of, width_of)
 from pagewright.box.packing import Box
+from pagewright.box.setting import Setting
 from pagewright.errors import InvalidItem
 from pagewright.font.fonts import Font, set_word
 from pagewright.font.hyphens import Patterns
@@ -18,7 +19,7 @@ LENGTH_END = 2 ** 30
 
 
 def box_of(kind="row", sizes=(20, 9, 4), content=()):
-    return Box(kind, sizes, content)
+    return Box(kind, sizes, content, 0, Setting((), 0), [], ())
 
 
 def nested(many, as_note=False):

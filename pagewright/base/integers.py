@@ -14,3 +14,8 @@ def rounded(over, under):
     if over < 0:
         return -size
     return size
+
+
+def is_between(value, least, greatest):
+    """Whether the value is an integer from one to another."""
+    return is_int(value) and least <= value <= greatest

@@ -1,0 +1,1 @@
+"""Lines: how paragraphs are broken."""
