@@ -19,3 +19,13 @@ def rounded(over, under):
 def is_between(value, least, greatest):
     """Whether the value is an integer from one to another."""
     return is_int(value) and least <= value <= greatest
+
+
+def sums_of(numbers):
+    """The list of the sums of the numbers ahead of each index, and of all."""
+    sums = [0]
+    total = 0
+    for number in numbers:
+        total += number
+        sums.append(total)
+    return sums

@@ -1,7 +1,7 @@
 """Measured rows: where their lines can end, and how good lines and ways are [11.1] to [11.7]."""
 
 from pagewright.base.glue import Glue
-from pagewright.base.integers import is_between, is_int
+from pagewright.base.integers import is_between, is_int, sums_of
 from pagewright.base.lengths import is_length
 from pagewright.box.items import MAX_PENALTY
 from pagewright.box.setting import badness_of
@@ -70,16 +70,6 @@ def shrink_in_line(item):
     if item[0] == "glue":
         return item[1].shrink
     return 0
-
-
-def sums_of(numbers):
-    """The list of the sums of the numbers ahead of each index, and of all."""
-    sums = [0]
-    total = 0
-    for number in numbers:
-        total += number
-        sums.append(total)
-    return sums
 
 
 def tightness_of(badness, rest):

@@ -1,0 +1,1 @@
+"""Pages: as their items come, and at their best."""
