@@ -87,6 +87,8 @@ CALLED = set("""len range enumerate zip min max sum abs sorted reversed int str 
 next property classmethod staticmethod""".split())
 BARRED = set("""type typing typing_extensions enum Enum IntEnum StrEnum Flag IntFlag Generic Protocol ABC ABCMeta namedtuple NamedTuple TypedDict
 TYPE_CHECKING abstractmethod dataclass overload contextmanager metaclass""".split())
+NO_ATTRIBUTES = {"items", "keys", "values", "pop", "update", "append", "clear", "extend", "insert", "remove", "reverse", "setdefault", "sort", "args",
+                 "encode", "decode", "hex", "fromhex", "format", "format_map", "mro"}
 UNUSED = {"register", "mro", "elements", "open", "input", "law", "version_info", "with_traceback", "add_note"}
 
 
@@ -205,6 +207,7 @@ class Forms(unittest.TestCase):
             for function in [node for node in ast.walk(tree) if isinstance(node, ast.FunctionDef)]:
                 with self.subTest(path.name, function=function.name):
                     self.assertEqual(names_of(function) & (bound | set(dir(builtins)) | UNUSED), set())
+            self.assertEqual(assigned & NO_ATTRIBUTES, set())
             for node in ast.walk(tree):
                 if isinstance(node, ast.Attribute):
                     with self.subTest(path.name, row=node.lineno):

@@ -18,6 +18,8 @@ class Coming:
         self._told = []
         self._many_taken = 0
         self.greatest_line = -1
+        # How many lines stand ahead of those of the source.
+        self.lines_ahead = 0
         # How many steps were made since the first token of the last new line.
         self.many_steps = 0
 
@@ -35,7 +37,7 @@ class Coming:
             return False
         came = self._source.take()
         if came is not None:
-            self._told.append((came[0], came[1][0]))
+            self._told.append((came[0], came[1][0] + self.lines_ahead))
             return True
         if not self._source.is_finished:
             raise Waiting("a token must come")
@@ -80,6 +82,10 @@ class Coming:
     def put_tokens(self, tokens, is_still=False):
         """Puts tokens ahead, in their order."""
         self.put_all([(token, is_still) for token in tokens])
+
+    def is_empty(self):
+        """Whether no token waits that is put ahead or told by the source, right behind `mark` or `go_back`."""
+        return self._ahead is None and len(self._told) == 0
 
     def mark(self):
         """All that is told to `go_back`; what the source has told stays told."""

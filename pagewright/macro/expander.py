@@ -59,6 +59,16 @@ def whole_expansion(machine):
     return tuple(tokens)
 
 
+def expanded(machine, row):
+    """The tokens that come if a row alone is asked for to its end; the steps count for a machine."""
+    inner = Machine(machine.scope, None, machine.limit)
+    inner.many_steps = machine.many_steps
+    inner.put_tokens(row)
+    tokens = whole_expansion(inner)
+    machine.many_steps = inner.many_steps
+    return tokens
+
+
 class Expander:
     """Tells tokens one after the other, those that are pushed and those of a source, and expands them."""
 
@@ -111,13 +121,7 @@ class Expander:
     def whole(self, row):
         """The tokens that come if the row alone is asked for to its end."""
         check_row(row)
-        machine = self._machine
-        inner = Machine(machine.scope, None, machine.limit)
-        inner.many_steps = machine.many_steps
-        inner.put_tokens(row)
-        tokens = whole_expansion(inner)
-        machine.many_steps = inner.many_steps
-        return tokens
+        return expanded(self._machine, row)
 
     @property
     def steps(self):

@@ -185,7 +185,7 @@ def is_beginning(column, stop, cut):
 
 def check_page(column, start, stop, begin):
     """Raises `InvalidPage` unless a page has this start and stop, and begins at a cut that it can begin at."""
-    if not is_int(start) or not is_int(stop) or not 0 <= start < stop < len(column.items):
+    if not is_int(start) or not is_int(stop) or not 0 <= start < stop < len(column.members):
         raise InvalidPage("no start and stop")
     if not column.has_page(start, stop) or not is_beginning(column, stop, begin):
         raise InvalidPage("no page")
@@ -234,24 +234,24 @@ class Builder:
         if not is_column_row((item,)):
             raise InvalidItem("no item of a column row")
         self._check_unfinished()
-        if len(self._making.column.items) == MAX_HELD:
+        if len(self._making.column.members) == MAX_HELD:
             raise TooMany(MAX_HELD)
-        mark = self._making.mark()
+        mark = self.mark()
         try:
             told = self._making.put_all((item,))
         except (InvalidLength, InvalidItem):
-            self._making.go_back(mark)
+            self.go_back(mark)
             raise
         return told_pages(told)
 
     def finish(self):
         """Ends the items, and returns the tuple of the last pages."""
         self._check_unfinished()
-        mark = self._making.mark()
+        mark = self.mark()
         try:
             told = self._making.finish_all()
         except (InvalidLength, InvalidItem):
-            self._making.go_back(mark)
+            self.go_back(mark)
             raise
         self._is_finished = True
         return told_pages(told)
@@ -261,6 +261,15 @@ class Builder:
         if self._is_finished:
             raise InvalidOperation("the builder is finished")
 
+    def mark(self):
+        """All that is told to `go_back`."""
+        return (self._making.mark(), self._is_finished)
+
+    def go_back(self, mark):
+        """Makes all as it was when a mark was made, if nothing was gone back to that is older."""
+        told, self._is_finished = mark
+        self._making.go_back(told)
+
     @property
     def style(self):
         """The style of the pages."""
@@ -269,7 +278,7 @@ class Builder:
     @property
     def held(self):
         """The tuple of the items that are held, from where the last page stopped on."""
-        return tuple(self._making.column.items)
+        return tuple(self._making.column.members)
 
     @property
     def start(self):

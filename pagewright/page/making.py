@@ -46,7 +46,7 @@ class Making:
 
     def mark(self):
         """All that is told to `go_back`."""
-        return (len(self.column.items), self.column, self._numbers(), self.unset, self.mark_ahead, self._best)
+        return (len(self.column.members), self.column, self._numbers(), self.unset, self.mark_ahead, self._best)
 
     def _numbers(self):
         """The numbers that tell where the next page begins."""
@@ -63,7 +63,7 @@ class Making:
         other = Making(self._style)
         many = self.column.notes_ahead(0)
         other.column = Column(self.column.queue.notes[:many])
-        for item in self.column.items:
+        for item in self.column.members:
             other.column.put(item)
         other.first_item, other.first_note, other.index_of_cut = self._numbers()
         other.unset = self.unset
@@ -86,7 +86,7 @@ class Making:
             self.column.put(pending.pop())
             stop = self._stop_of_page()
             if stop is not None:
-                rest = self.column.items[stop:]
+                rest = self.column.members[stop:]
                 pages.append(self._sent_out((0, stop), self._best[1]))
                 # What is left is looked at anew.
                 pending.extend(rest[::-1])
@@ -95,14 +95,14 @@ class Making:
     def _stop_of_page(self):
         """Where the page stops that goes out now that the last item is put; None if none goes out."""
         column = self.column
-        stop = len(column.items) - 1
+        stop = len(column.members) - 1
         if not column.has_page(0, stop):
             return None
         sheet = Sheet(column, self._style, column.first_solid(0), stop)
         begin = (0, self.index_of_cut)
         end = sheet.fullest_cut(begin)
         cost = sheet.cost_with(begin, end)
-        goes_out = is_forced(column.items[stop]) and cost[0] == 0
+        goes_out = is_forced(column.members[stop]) and cost[0] == 0
         if self._best is None or cost <= self._best[2] or goes_out:
             self._best = (stop, end, cost)
         if goes_out or cost[0] > 0:
@@ -117,9 +117,9 @@ class Making:
         told = self._moved(page)
         number, index = end
         waiting = self.column.queue.notes[number:self.column.notes_ahead(stop)]
-        self.unset = tuple([note.items for note in waiting])
+        self.unset = tuple([note.members for note in waiting])
         if len(waiting) > 0:
-            self.unset = (waiting[0].items[index:], *self.unset[1:])
+            self.unset = (waiting[0].members[index:], *self.unset[1:])
         self.column = Column(waiting)
         self.first_item += stop
         self.first_note += number
@@ -147,7 +147,7 @@ class Making:
     def _page_of_notes(self):
         """What is told of a page without items, which goes out."""
         column = self.column
-        stop = len(column.items)
+        stop = len(column.members)
         begin = (0, self.index_of_cut)
         end = Sheet(column, self._style, stop, stop).fullest_cut(begin)
         if end == begin:

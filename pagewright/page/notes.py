@@ -55,7 +55,7 @@ class Note:
 
     def __init__(self, box):
         items = box.content
-        self.items = items
+        self.members = items
         self.frames = box.many_items
         self._taken = sums_of([taken_by(item) for item in items])
         self._sizes = sums_of([size_taken(item) for item in items])
@@ -72,13 +72,13 @@ class Note:
 
     def next_index(self, index):
         """The least index of a cut above one, the number of items if there is none."""
-        return min([other for other in self.indices if other > index], default=len(self.items))
+        return min([other for other in self.indices if other > index], default=len(self.members))
 
     def penalty_at(self, index):
         """What it costs a page to end at a cut of the note."""
         if index == 0:
             return 0
-        return penalty_of(self.items[index])
+        return penalty_of(self.members[index])
 
     def _begin(self, begin, end):
         """The index of the first item of the piece between two indices."""
@@ -97,7 +97,7 @@ class Note:
 
     def piece(self, begin, end):
         """The column box of the piece between two indices."""
-        return packed_column(self.items[self._begin(begin, end):end], None, None, None)
+        return packed_column(self.members[self._begin(begin, end):end], None, None, None)
 
     def is_refused(self, begin, end):
         """Whether there is no column box of the piece between two indices."""
@@ -129,7 +129,7 @@ class Queue:
 
     def _measure(self, note):
         """Notes the sums behind a note that is set as a whole."""
-        end = len(note.items)
+        end = len(note.members)
         self._heights.append(self._heights[-1] + note.height_of_piece(0, end))
         self._sizes.append(self._sizes[-1] + note.size_of_piece(0, end))
         self._refused.append(self._refused[-1] + int(note.is_refused(0, end)))
@@ -157,7 +157,7 @@ class Queue:
         """The least cut behind a cut at which not all notes are set."""
         number, index = cut
         further = self.notes[number].next_index(index)
-        if further < len(self.notes[number].items):
+        if further < len(self.notes[number].members):
             return (number, further)
         return (number + 1, 0)
 
@@ -179,7 +179,7 @@ class Queue:
             return []
         if first == last:
             return [(self.notes[first], index, stop)]
-        ends = [(self.notes[first], index, len(self.notes[first].items))]
+        ends = [(self.notes[first], index, len(self.notes[first].members))]
         if stop > 0:
             ends.append((self.notes[last], 0, stop))
         return ends
@@ -213,7 +213,7 @@ class Queue:
         for number in range(begin[0], end[0] + 1):
             one, other = 0, 0
             if number < len(self.notes):
-                other = len(self.notes[number].items)
+                other = len(self.notes[number].members)
             if number == begin[0]:
                 one = begin[1]
             if number == end[0]:

@@ -47,7 +47,7 @@ class Column:
     """Items of a column, behind some notes that wait, with the sums that pages need."""
 
     def __init__(self, notes):
-        self.items = []
+        self.members = []
         self.queue = Queue(notes)
         # How many notes stand ahead of each index.
         self._ahead = [len(notes)]
@@ -63,8 +63,8 @@ class Column:
 
     def put(self, item, note=None):
         """Puts an item behind all others; what is known of it as a note may be told."""
-        index = len(self.items)
-        self.items.append(item)
+        index = len(self.members)
+        self.members.append(item)
         if item[0] == "note":
             if note is None:
                 note = Note(item[1])
@@ -93,7 +93,7 @@ class Column:
 
     def cut_back(self, many):
         """Keeps the first items alone, so many ones."""
-        del self.items[many:]
+        del self.members[many:]
         self.queue.cut_back(self._ahead[many])
         for sums in (self._ahead, self._taken, self._sizes, self._inner, self._widest):
             del sums[many + 1:]
@@ -120,7 +120,7 @@ class Column:
     def has_page(self, start, stop):
         """Whether there is a page from a start to a stop, which is an index."""
         first = self.first_solid(start)
-        if first is None or first >= stop or not is_place(self.items, stop):
+        if first is None or first >= stop or not is_place(self.members, stop):
             return False
         return not any([first < index < stop for index in self._forced])
 
@@ -130,10 +130,10 @@ class Column:
         first = self.first_solid(start)
         if first is None:
             return stops
-        for index in range(first + 1, len(self.items)):
-            if is_place(self.items, index):
+        for index in range(first + 1, len(self.members)):
+            if is_place(self.members, index):
                 stops.append(index)
-                if is_forced(self.items[index]):
+                if is_forced(self.members[index]):
                     break
         return stops
 
@@ -159,12 +159,12 @@ class Column:
 
     def is_small(self):
         """Whether no page can have too many items, or too wide ones."""
-        parts = len(self.items) + len(self.queue.notes) + 2
+        parts = len(self.members) + len(self.queue.notes) + 2
         return parts <= MAX_ITEMS and parts + self._inner[-1] <= MOST_WITH_INNER and self._widest[-1] <= MAX_LENGTH
 
     def marks_between(self, start, stop):
         """The list of the texts of the marks between two indices."""
-        return [item[1] for item in self.items[start:stop] if item[0] == "mark"]
+        return [item[1] for item in self.members[start:stop] if item[0] == "mark"]
 
 
 class Sheet:
@@ -181,8 +181,8 @@ class Sheet:
         self._stretches = column.stretches_between(first, stop)
         self._shrinks = column.shrinks_between(first, stop)
         if first < stop:
-            self._top = max(0, style.top - height_of_solid(column.items[first]))
-            self._penalty = penalty_of(column.items[stop])
+            self._top = max(0, style.top - height_of_solid(column.members[first]))
+            self._penalty = penalty_of(column.members[stop])
         else:
             self._stretches[3] = self._stretches[3] + 1
 
@@ -258,7 +258,7 @@ class Sheet:
             return (skip, *pieces, closing_glue())
         if not is_length(self._top):
             raise InvalidItem("no glue ahead of the page")
-        items = [item for item in self._column.items[self._first:self._stop] if item[0] not in ("mark", "note")]
+        items = [item for item in self._column.members[self._first:self._stop] if item[0] not in ("mark", "note")]
         if begin == end:
             return (("glue", Glue(self._top)), *items)
         return (("glue", Glue(self._top)), *items, skip, *pieces)
