@@ -66,6 +66,6 @@ class Held:
     def moved_to(self, line, more_out):
         """The same, where so many more pages have gone out, and a token of another line has come last."""
         return Held(
-            self.scope_state, self.lists, self.conditions, self.builder, self.last_depth, self.many_out + more_out, line,
-            self.is_stopped,
+            self.scope_state, self.lists, self.conditions, self.builder, self.last_depth, self.many_out + more_out,
+            line, self.is_stopped,
         )
