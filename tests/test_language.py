@@ -185,7 +185,7 @@ class Forms(unittest.TestCase):
                 for starred in [one for one in call.args if isinstance(one, ast.Starred)]:
                     self.assertIsInstance(starred.value, (ast.Name, ast.Attribute, ast.List, ast.Tuple))
                 if isinstance(call.func, ast.Attribute):
-                    self.assertIn(call.func.attr, METHODS | methods)
+                    self.assertTrue(call.func.attr in METHODS | methods, call.func.attr)
                 elif call.func.id in CALLED:
                     for keyword in call.keywords:
                         self.assertIn((call.func.id, keyword.arg), {(name, "key") for name in ("sorted", "min", "max")} | {
@@ -212,7 +212,7 @@ class Forms(unittest.TestCase):
                 if isinstance(node, ast.Attribute):
                     with self.subTest(path.name, row=node.lineno):
                         self.assertNotIn(node.attr, UNUSED)
-                        self.assertIn(node.attr, METHODS | methods | assigned)
+                        self.assertTrue(node.attr in METHODS | methods | assigned, node.attr)
 
     def test_methods_and_attributes_of_a_class(self):
         for place, node in self.nodes(ast.ClassDef):
@@ -221,6 +221,13 @@ class Forms(unittest.TestCase):
                       and ast.unparse(inner.value) == "self"}
             with self.subTest(place):
                 self.assertEqual(methods & stored, set())
+
+    def test_names_of_methods_are_those_of_no_attribute_elsewhere(self):
+        _, methods, _, assigned = own_names()
+        properties = {node.name for _, node in self.nodes(ast.FunctionDef) if node.decorator_list}
+        self.assertLessEqual((methods - properties) & assigned, {"number", "asked"})
+        classes = [node.name for _, node in self.nodes(ast.ClassDef)]
+        self.assertEqual(len(classes), len(set(classes)))
 
     def test_strings(self):
         for place, node in self.nodes(ast.Constant):

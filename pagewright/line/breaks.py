@@ -4,7 +4,7 @@ from pagewright.errors import InvalidNumber, InvalidOperation, InvalidRow, Inval
 from pagewright.base.integers import is_between
 from pagewright.base.lengths import is_length
 from pagewright.line.measures import Measures, is_forced, is_measured_item, tightness_of
-from pagewright.line.search import Search, cost_of_way, is_no_paper, is_paper, is_way_of
+from pagewright.line.search import StepSearch, cost_of_way, is_no_paper, is_paper, is_way_of
 
 MAX_ITEMS = 1000
 NEVER = 10000
@@ -241,7 +241,7 @@ def breaks_paper(row, rules, *, wrong=False):
     """A paper of breaks [11.10], None if no way counts."""
     measures = measures_of(row, rules)
     check_boolean(wrong)
-    return Search(measures, wrong, MAX_NODES).paper(rules.looseness)
+    return StepSearch(measures, wrong, MAX_NODES).paper(rules.looseness)
 
 
 def least_breaks(row, rules, *, wrong=False):
@@ -261,10 +261,10 @@ def is_breaks_paper(row, rules, value, *, wrong=False):
 
 def no_way_paper(row, rules):
     """A paper of no way [11.11], None if some way is clean."""
-    search = Search(measures_of(row, rules), False, MAX_NODES)
+    search = StepSearch(measures_of(row, rules), False, MAX_NODES)
     if search.paper(rules.looseness) is not None:
         return None
-    return tuple(search.nodes())
+    return tuple(search.all_nodes())
 
 
 def is_no_way_paper(row, rules, value):

@@ -217,11 +217,11 @@ class Measures:
         key = (place, width, are_wrong_fine)
         if key not in self._known_lines:
             start = self.start_behind(place)
-            lines = [self._line(start, place, end, width) for end in self.next_places(place)]
+            lines = [self._told_line(start, place, end, width) for end in self.next_places(place)]
             self._known_lines[key] = [line for line in lines if are_wrong_fine or line[2] == 0]
         return self._known_lines[key]
 
-    def _line(self, start, place, end, width):
+    def _told_line(self, start, place, end, width):
         """A line as `lines_from` tells it."""
         rest, badness, too_full = self.judged_line(start, place, end, width)
         demerits = self.demerits_alone(badness, end, self.is_part(place))

@@ -12,7 +12,7 @@ def added(one, other):
     return (one[0] + other[0], one[1] + other[1], one[2] + other[2])
 
 
-class Search:
+class StepSearch:
     """All nodes to which steps lead from the first one, with their least costs."""
 
     def __init__(self, measures, are_wrong_fine, most_nodes):
@@ -46,7 +46,7 @@ class Search:
             raise TooMany(self._most_nodes)
         self._nodes_at.setdefault(node[0], []).append(node)
 
-    def nodes(self):
+    def all_nodes(self):
         """The ascending list of all nodes."""
         return sorted(self._costs)
 
@@ -57,7 +57,7 @@ class Search:
             return None
         costs = {number: self._costs[last[number]] for number in last}
         number = told_number(costs, looseness)
-        values = tuple([(node, self._costs[node]) for node in self.nodes()])
+        values = tuple([(node, self._costs[node]) for node in self.all_nodes()])
         return (self._way_to(last[base_number(costs)]), self._way_to(last[number]), values)
 
     def _last_nodes(self):

@@ -46,9 +46,9 @@ class Making:
 
     def mark(self):
         """All that is told to `go_back`."""
-        return (len(self.column.members), self.column, self._numbers(), self.unset, self.mark_ahead, self._best)
+        return (len(self.column.members), self.column, self._beginning(), self.unset, self.mark_ahead, self._best)
 
-    def _numbers(self):
+    def _beginning(self):
         """The numbers that tell where the next page begins."""
         return (self.first_item, self.first_note, self.index_of_cut)
 
@@ -65,7 +65,7 @@ class Making:
         other.column = Column(self.column.queue.notes[:many])
         for item in self.column.members:
             other.column.put(item)
-        other.first_item, other.first_note, other.index_of_cut = self._numbers()
+        other.first_item, other.first_note, other.index_of_cut = self._beginning()
         other.unset = self.unset
         other.mark_ahead = self.mark_ahead
         other._best = self._best

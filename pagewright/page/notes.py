@@ -80,7 +80,7 @@ class Note:
             return 0
         return penalty_of(self.members[index])
 
-    def _begin(self, begin, end):
+    def _first_of(self, begin, end):
         """The index of the first item of the piece between two indices."""
         solid = self._first_solids[begin]
         if solid < end:
@@ -89,7 +89,7 @@ class Note:
 
     def height_of_piece(self, begin, end):
         """The height and the depth together of the piece between two indices."""
-        return self._taken[end] - self._taken[self._begin(begin, end)]
+        return self._taken[end] - self._taken[self._first_of(begin, end)]
 
     def size_of_piece(self, begin, end):
         """At least as much as each length that is worked out for the piece, without its sign."""
@@ -97,7 +97,7 @@ class Note:
 
     def piece(self, begin, end):
         """The column box of the piece between two indices."""
-        return packed_column(self.members[self._begin(begin, end):end], None, None, None)
+        return packed_column(self.members[self._first_of(begin, end):end], None, None, None)
 
     def is_refused(self, begin, end):
         """Whether there is no column box of the piece between two indices."""
@@ -171,7 +171,7 @@ class Queue:
             cuts.append((many, 0))
         return cuts
 
-    def _ends(self, begin, end):
+    def _partly_set(self, begin, end):
         """The triples of a note, and of the indices between which it is set, for the first and the last one in part."""
         first, index = begin
         last, stop = end
@@ -192,17 +192,17 @@ class Queue:
 
     def height_of_pieces(self, begin, end):
         """The heights and the depths of all pieces between two cuts together."""
-        ends = sum([note.height_of_piece(one, other) for note, one, other in self._ends(begin, end)])
+        ends = sum([note.height_of_piece(one, other) for note, one, other in self._partly_set(begin, end)])
         return ends + self._between(self._heights, begin, end)
 
     def size_of_pieces(self, begin, end):
         """At least as much as each length that is worked out for the pieces between two cuts, without its sign."""
-        ends = sum([note.size_of_piece(one, other) for note, one, other in self._ends(begin, end)])
+        ends = sum([note.size_of_piece(one, other) for note, one, other in self._partly_set(begin, end)])
         return ends + self._between(self._sizes, begin, end)
 
     def are_refused(self, begin, end):
         """Whether a piece between two cuts is refused."""
-        ends = [note.is_refused(one, other) for note, one, other in self._ends(begin, end)]
+        ends = [note.is_refused(one, other) for note, one, other in self._partly_set(begin, end)]
         return any(ends) or self._between(self._refused, begin, end) > 0
 
     def pieces(self, begin, end):

@@ -186,7 +186,7 @@ class Sheet:
         else:
             self._stretches[3] = self._stretches[3] + 1
 
-    def _wanted(self, begin, end):
+    def _wanted_with(self, begin, end):
         """What is wanted of the glue of the page with what it sets between two cuts."""
         style = self._style
         rest = style.height - self._top - self._column.taken_between(self._first, self._stop)
@@ -194,7 +194,7 @@ class Sheet:
             return rest
         return rest - style.skip.natural - self._column.queue.height_of_pieces(begin, end)
 
-    def _rooms(self, wanted, begin, end):
+    def _rooms_for(self, wanted, begin, end):
         """The list of the rooms of the page, by orders, if so much is wanted."""
         skip = self._style.skip
         if wanted > 0:
@@ -207,15 +207,15 @@ class Sheet:
 
     def excess_with(self, begin, end):
         """The excess of the page, at least 0."""
-        wanted = self._wanted(begin, end)
-        return max(0, excess_of(wanted, self._rooms(wanted, begin, end)))
+        wanted = self._wanted_with(begin, end)
+        return max(0, excess_of(wanted, self._rooms_for(wanted, begin, end)))
 
     def cost_with(self, begin, end):
         """The cost of the page [14.5]."""
-        wanted = self._wanted(begin, end)
+        wanted = self._wanted_with(begin, end)
         if not self._is_fine(wanted, begin, end):
             self.made_box(begin, end)
-        rooms = self._rooms(wanted, begin, end)
+        rooms = self._rooms_for(wanted, begin, end)
         excess = max(0, excess_of(wanted, rooms))
         number = COST_OF_EXCESS
         if excess == 0:

@@ -79,7 +79,7 @@ class Engine:
                 self.machine.conditions = conditions
                 return
             except Fault as fault:
-                self._stop(fault.word)
+                self._stop_for(fault.word)
                 return
             if deed is None:
                 return
@@ -93,7 +93,7 @@ class Engine:
             do(self, deed)
         except Fault as fault:
             self._go_back(mark)
-            self._stop(fault.word)
+            self._stop_for(fault.word)
         self._backup = None
         sorts = self.scope.sorts
         if sorts != self.reader.sorts:
@@ -118,12 +118,12 @@ class Engine:
         if self._backup is None:
             self._backup = (self.scope.state, self._builder.mark())
 
-    def _stop(self, word):
+    def _stop_for(self, word):
         """Stops for a fault."""
         self.log.append(("fault", self.machine.greatest_line, word))
         self.is_stopped = True
 
-    def many_out(self):
+    def pages_out(self):
         """How many pages have gone out."""
         return self._many_ahead + len(self.boxes)
 
@@ -136,7 +136,7 @@ class Engine:
         if self._copy is None:
             self._copy = self._builder.twin()
         return Held(
-            self.scope.state, self.lists, self.machine.conditions, self._copy, self._last_depth, self.many_out(),
+            self.scope.state, self.lists, self.machine.conditions, self._copy, self._last_depth, self.pages_out(),
             self.machine.greatest_line, self.is_stopped,
         )
 
@@ -311,9 +311,9 @@ class Engine:
 
     def _go_out(self, page):
         """Lets a page go out [17.9]."""
-        if self.many_out() == self._most_out:
+        if self.pages_out() == self._most_out:
             raise Fault("pages")
-        self.scope.assign("number", PAGE_NUMBER, self.many_out() + 1, everywhere=True)
+        self.scope.assign("number", PAGE_NUMBER, self.pages_out() + 1, everywhere=True)
         row = self.scope.value_of("row", OUTPUT_ROW)
         if row == ():
             self.boxes.append(page.box)
