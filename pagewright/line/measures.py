@@ -211,27 +211,34 @@ class Measures:
     def lines_from(self, place, width, are_wrong_fine):
         """The list of the lines of a width that begin behind a place, or behind -1; the wrong ones only if asked for.
 
-        Each one is told by its end, its class, 1 or 0 for a wrong one, by how many units it is too full, and its
-        demerits but for those of an unlike class.
+        Each one is told by its end, its class, whether it ends at a part, 1 or 0 for a wrong one, by how many units it
+        is too full, and its demerits but for those of an unlike class.
         """
         key = (place, width, are_wrong_fine)
         if key not in self._known_lines:
             start = self.start_behind(place)
             lines = [self._told_line(start, place, end, width) for end in self.next_places(place)]
-            self._known_lines[key] = [line for line in lines if are_wrong_fine or line[2] == 0]
+            self._known_lines[key] = [line for line in lines if are_wrong_fine or line[3] == 0]
         return self._known_lines[key]
 
     def _told_line(self, start, place, end, width):
         """A line as `lines_from` tells it."""
         rest, badness, too_full = self.judged_line(start, place, end, width)
         demerits = self.demerits_alone(badness, end, self.is_part(place))
-        return (end, tightness_of(badness, rest), int(self.is_wrong_line(badness, too_full)), too_full, demerits)
+        is_wrong = self.is_wrong_line(badness, too_full)
+        return (end, tightness_of(badness, rest), self.is_part(end), int(is_wrong), too_full, demerits)
 
-    def steps_from(self, node, are_wrong_fine):
-        """The list of the pairs of a node to which a step leads from a node, and of its cost [11.9]."""
+    def steps_from(self, node, cost, are_wrong_fine):
+        """The list of the pairs of a node to which a step leads from a node, and of the cost behind it [11.9]."""
         place, number, tightness, _ = node
+        ahead, full_ahead, demerits_ahead = cost
+        unlike = self._rules.unlike
         steps = []
-        for end, own, wrong, too_full, demerits in self.lines_from(place, self.width_for(number + 1), are_wrong_fine):
-            cost = (wrong, too_full, demerits + self.unlike_demerits(own, tightness))
-            steps.append(((end, number + 1, own, self.is_part(end)), cost))
+        for end, own, is_part, wrong, too_full, more in self.lines_from(
+            place, self.width_for(number + 1), are_wrong_fine,
+        ):
+            total = demerits_ahead + more
+            if abs(own - tightness) > 1:
+                total = total + unlike
+            steps.append(((end, number + 1, own, is_part), (ahead + wrong, full_ahead + too_full, total)))
         return steps

@@ -7,11 +7,6 @@ FIRST = (-1, 0, 1, False)
 NOTHING = (0, 0, 0)
 
 
-def added(one, other):
-    """The sum of two costs."""
-    return (one[0] + other[0], one[1] + other[1], one[2] + other[2])
-
-
 class StepSearch:
     """All nodes to which steps lead from the first one, with their least costs."""
 
@@ -30,15 +25,13 @@ class StepSearch:
 
     def _go_on(self, node):
         """Makes all steps from a node."""
-        cost = self._costs[node]
-        for further, more in self._measures.steps_from(node, self._are_wrong_fine):
-            total = added(cost, more)
-            if further not in self._costs:
+        for further, cost in self._measures.steps_from(node, self._costs[node], self._are_wrong_fine):
+            known = self._costs.get(further)
+            if known is None:
                 self._add(further)
-            elif self._costs[further] <= total:
-                continue
-            self._costs[further] = total
-            self._ahead[further] = node
+            if known is None or cost < known:
+                self._costs[further] = cost
+                self._ahead[further] = node
 
     def _add(self, node):
         """Notes a node that is new."""
@@ -106,9 +99,8 @@ def cost_of_way(measures, way):
     total = NOTHING
     node = FIRST
     for end in way:
-        steps = [step for step in measures.steps_from(node, True) if step[0][0] == end]
-        node, cost = steps[0]
-        total = added(total, cost)
+        steps = [step for step in measures.steps_from(node, total, True) if step[0][0] == end]
+        node, total = steps[0]
     return total
 
 
@@ -154,8 +146,8 @@ def are_closed(measures, are_wrong_fine, costs):
     """Whether each step from a key of a dict leads to one, with at most the cost of this way to it."""
     for node, cost in costs.items():
         if node[0] != measures.end:
-            for further, more in measures.steps_from(node, are_wrong_fine):
-                if further not in costs or costs[further] > added(cost, more):
+            for further, most in measures.steps_from(node, cost, are_wrong_fine):
+                if further not in costs or costs[further] > most:
                     return False
     return True
 
@@ -194,7 +186,7 @@ def is_no_paper(measures, value):
         return False
     known = {node: True for node in value}
     for node in value:
-        for further, _ in measures.steps_from(node, False):
+        for further, _ in measures.steps_from(node, NOTHING, False):
             if further not in known:
                 return False
     return True
