@@ -34,6 +34,31 @@ FUNCTIONS = {
         "is_item": "(value)", "are_row_items": "(value)", "are_column_items": "(value)", "width_of": "(item)",
         "height_of": "(item)", "depth_of": "(item)", "letters_of": "(items)",
     },
+    "pagewright.box.packing": {
+        "badness": "(wanted, room)", "row_box": "(items, *, to=None, spread=None)",
+        "column_box": "(items, *, to=None, spread=None, depth_limit=None)",
+    },
+    "pagewright.line.breaks": {
+        "is_measured": "(value)", "places_of": "(row, rules)", "next_places": "(row, rules, place)", "is_way": "(row, rules, value)",
+        "cost_of": "(row, rules, way)", "least_breaks": "(row, rules, *, wrong=False)", "breaks_paper": "(row, rules, *, wrong=False)",
+        "is_breaks_paper": "(row, rules, value, *, wrong=False)", "no_way_paper": "(row, rules)", "is_no_way_paper": "(row, rules, value)",
+    },
+    "pagewright.line.paragraphs": {
+        "word_items": "(style, word)", "text_items": "(style, text)", "with_hyphens": "(style, items)", "whole_items": "(style, items)",
+        "measured": "(items)", "is_paper_of": "(broken, value)", "paragraph": "(style, items, *, depth=None)",
+        "text_paragraph": "(style, text, *, depth=None)",
+    },
+    "pagewright.page.builder": {
+        "places_of": "(items)", "page_of": "(items, style, start, stop, begin, end, *, top_mark='')",
+        "filled": "(items, style, start, stop, begin)",
+    },
+    "pagewright.page.best": {
+        "best_way": "(items, style)", "is_way": "(items, style, value)", "way_cost": "(items, style, way)", "pages_of": "(items, style, way)",
+        "built_way": "(items, style)", "paper_for": "(items, style)", "is_paper": "(items, style, value)",
+        "does_show": "(items, style, paper, way)", "least_pages": "(items, style)",
+    },
+    "pagewright.press.press": {"set_text": "(text, styles, name, page, *, limit=1000)"},
+    "pagewright.press.edits": {"first_difference": "(one, other)"},
 }
 CONSTANTS = {
     "pagewright.base.lengths": {"POINT": 65536, "MAX_LENGTH": 2 ** 30 - 1},
@@ -56,6 +81,15 @@ CONSTANTS = {
     "pagewright.font.fonts": {"MAX_SIGNS": 128, "MAX_WORD": 60, "MAX_STEPS": 10000},
     "pagewright.font.hyphens": {"MAX_PATTERNS": 100, "MAX_PATTERN_SIGNS": 8, "MAX_EXCEPTIONS": 50, "MAX_LETTERS": 60},
     "pagewright.box.items": {"MAX_PENALTY": 10000, "MAX_ITEMS": 2000},
+    "pagewright.line.breaks": {"MAX_ITEMS": 1000, "NEVER": 10000, "FORCED": -10000, "MAX_NODES": 20000},
+    "pagewright.page.builder": {"FORCED": -10000, "BARRED": 10000, "MAX_HELD": 1500},
+    "pagewright.press.press": {
+        "DEEDS": ("everywhere", "number", "length", "glue", "row", "add", "define", "longdefine", "fulldefine", "let", "change",
+                  "style", "behind", "kern", "skip", "penalty", "rule", "mark", "part", "indent", "noindent", "par", "rowbox",
+                  "columnbox", "note", "shift", "pagebox"),
+        "MAX_PAGES": 1000, "MAX_OPEN": 50,
+    },
+    "pagewright.press.edits": {"MAX_LINES": 400, "MAX_COLUMNS": 200},
 }
 # For each class: the methods with their arguments, the class methods, the properties, and what works by signs.
 CLASSES = {
@@ -98,6 +132,50 @@ CLASSES = {
          "with_limits": "(self, front, end)"}, {},
         "patterns exceptions front end longest", "__contains__ __len__ __iter__ __eq__ __str__",
     ),
+    ("pagewright.box.packing", "Box"): (
+        {"size_at": "(self, index)", "walk": "(self)"}, {},
+        "kind width height depth content places natural excess order ugliness", "__contains__ __len__ __iter__ __eq__ __str__",
+    ),
+    ("pagewright.line.breaks", "Rules"): (
+        {"__init__": "(self, widths, *, tolerance=200, line=10, hyphen=50, unlike=10000, double=10000, last=5000, room=0, looseness=0)",
+         "changed": "(self, **others)"}, {},
+        "widths tolerance line hyphen unlike double last room looseness", "__eq__",
+    ),
+    ("pagewright.line.breaks", "Line"): (
+        {"__init__": "(self, row, rules, place, end, number)", "demerits": "(self, tightness, is_part)"}, {},
+        "start natural width rest stretches shrink badness_told tightness too_full is_wrong", "",
+    ),
+    ("pagewright.line.styles", "Style"): (
+        {"__init__": "(self, font, widths, space, *, patterns=None, stops=None, shifts=(0,), first=100, tolerance=200, room=0, line=10, "
+                     "hyphen=50, unlike=10000, double=10000, last=5000, looseness=0, indent=0, fill=None, skip=None, near_gap=None, "
+                     "least_gap=0, between=0, behind_first=150, ahead_last=150, behind_part=100)",
+         "changed": "(self, **others)"}, {},
+        "font widths space patterns stops shifts first tolerance room line hyphen unlike double last looseness indent fill skip near_gap "
+        "least_gap between behind_first ahead_last behind_part", "__eq__",
+    ),
+    ("pagewright.line.paragraphs", "Broken"): (
+        {"__init__": "(self, style, items)", "papers": "(self)"}, {},
+        "style pass_number content rules way cost lines loose boxes", "__len__ __eq__",
+    ),
+    ("pagewright.page.builder", "PageStyle"): (
+        {"__init__": "(self, height, *, top=0, skip=None, notes=None, waiting=0)"}, {}, "height top skip notes waiting", "__eq__",
+    ),
+    ("pagewright.page.builder", "Page"): (
+        {"moved": "(self, items, notes)"}, {}, "start stop begin end cost box marks", "__eq__ __str__",
+    ),
+    ("pagewright.page.builder", "Builder"): (
+        {"__init__": "(self, style)", "put": "(self, item)", "finish": "(self)", "twin": "(self)"}, {},
+        "style held start cut waiting top_mark best rest is_finished", "",
+    ),
+    ("pagewright.press.press", "Press"): (
+        {"__init__": "(self, styles, name, page, *, limit=1000)", "feed": "(self, piece)", "finish": "(self)", "value_of": "(self, kind, key)"}, {},
+        "pages log modes level line is_stopped is_finished", "__contains__ __len__ __iter__ __str__",
+    ),
+    ("pagewright.press.edits", "Document"): (
+        {"__init__": "(self, lines, styles, name, page, *, limit=1000)", "edit": "(self, line, gone, come)", "state_ahead": "(self, place)",
+         "pages_ahead": "(self, place)", "twin": "(self)"}, {},
+        "lines text pages log rests work", "__contains__ __len__ __iter__ __eq__ __str__",
+    ),
 }
 
 
@@ -115,6 +193,13 @@ class Interface(unittest.TestCase):
         for module, constants in CONSTANTS.items():
             for name, value in constants.items():
                 self.assertEqual(getattr(import_module(module), name), value)
+
+    def test_what_is_iterated_over(self):
+        for (module, name), (_, _, _, signs) in CLASSES.items():
+            if "__iter__" not in signs and "__getitem__" not in signs:
+                with self.subTest(name):
+                    found = getattr(import_module(module), name)
+                    self.assertFalse(hasattr(found, "__iter__") or hasattr(found, "__getitem__"))
 
     def test_classes(self):
         for (module, name), (methods, class_methods, properties, signs) in CLASSES.items():

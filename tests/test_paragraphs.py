@@ -448,7 +448,7 @@ class Columns(unittest.TestCase):
         self.assertEqual(len(Broken(STYLE, (("box", box, 0),)).boxes), 1)
         self.assertRaises(InvalidItem, paragraph, STYLE, (("box", box, 0),))
         self.assertRaises(InvalidItem, paragraph, STYLE.changed(skip=Glue(MAX_LENGTH)), (("box", box, 0),), depth=-9)
-        self.assertRaises(InvalidLength, paragraph, STYLE, (("box", box, 0),), depth=None if False else "x")
+        self.assertRaises(InvalidLength, paragraph, STYLE, (("box", box, 0),), depth="x")
 
     def test_lines_that_are_refused(self):
         part = ("part", (), (), (("kern", 0),) * 1500)
