@@ -110,7 +110,7 @@ class Rows(unittest.TestCase):
         wrong = [(), (END,), (("box", 1),) * 1000 + (END,), (("box", 1),), (END, ("box", 1)), (END, ("penalty", -9999)), [("box", 1), END]]
         wrong += [(item, END) for item in (
             ("box",), ("box", None), ("box", True), ("box", MAX_LENGTH + 1), ("box", 1, 2), ("glue", 1), ("glue", Glue(1, shrink=1, shrink_order=1)), ("glue",),
-            ("penalty", 10001), ("penalty", -10001), ("penalty", True), ("penalty", None), ("penalty",), ("part", 1, 2), ("part", 1, 2, None), ("part", 1, 2, 3, 4),
+            ("penalty", 10001), ("penalty", -10001), ("penalty", True), ("penalty", None), ("penalty",), ("part", 1, 2), ("part", None, 1, 2), ("part", 1, None, 2), ("part", 1, 2, None), ("part", 1, 2, 3, 4),
             ("part", (), (), ()), ("kern", 1), ["box", 1], ("letter", 1), (), "box", None, 1, (["box"], 1))]
         for value in (*wrong, *ODD_VALUES):
             with self.subTest(value=value):
@@ -181,6 +181,20 @@ class Lines(unittest.TestCase):
         line = Line(row, Rules((19,), tolerance=10000), -1, 3, 1)
         self.assertEqual((line.badness_told, line.tightness, line.too_full, line.is_wrong), (10000, 0, 1, True))
 
+    def test_badness_99(self):
+        row = (("box", 100), ("glue", Glue(10, stretch=997, shrink=997)), ("box", 10), END)
+        for rest, badness, tightness in ((994, 99, 2), (993, 98, 2), (997, 100, 3), (-994, 99, 0)):
+            line = Line(row[:1] + (("glue", Glue(1010 - rest, stretch=997, shrink=997)),) + row[2:], Rules((1120,)), -1, 3, 1)
+            self.assertEqual((line.rest, line.badness_told, line.tightness), (rest, badness, tightness))
+
+    def test_each_order_of_stretch(self):
+        for orders in ((1,), (2,), (3,), (1, 2), (1, 3), (2, 3), (1, 2, 3)):
+            for amounts in ((1, 1, 1), (1, 5, 5), (5, 1, 5), (5, 5, 1)):
+                glues = tuple([("glue", Glue(0, stretch=amounts[order - 1], stretch_order=order)) for order in orders])
+                line = Line((("box", 10), *glues, ("box", 1), END), Rules((100,)), -1, len(glues) + 2, 1)
+                self.assertEqual((line.badness_told, line.tightness, line.stretches[0]), (0, 1, 0))
+                self.assertEqual(line.stretches[1:], tuple([amounts[order - 1] if order in orders else 0 for order in (1, 2, 3)]))
+
     def test_great_sums(self):
         row = (("box", MAX_LENGTH),) * 900 + (("glue", Glue(0, stretch=MAX_LENGTH, shrink=MAX_LENGTH)),) * 90 + (END,)
         line = Line(row, Rules((5,)), -1, 990, 1)
@@ -202,6 +216,7 @@ class Lines(unittest.TestCase):
         for value in ODD_VALUES + (4, -1, 2 ** 70):
             if value not in (0, 1) or isinstance(value, bool):
                 self.assertRaises(InvalidOperation, line.demerits, value, None)
+                self.assertRaises(InvalidOperation, line.demerits, value, False)
             if not isinstance(value, bool):
                 self.assertRaises(InvalidOperation, line.demerits, 1, value)
 

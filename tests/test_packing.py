@@ -263,6 +263,11 @@ class Values(unittest.TestCase):
         self.assertFalse(row_box(()) == column_box(()))
         one = row_box((("glue", Glue(1)), ("glue", Glue(2))))
         self.assertFalse(one == row_box((("glue", Glue(2)), ("glue", Glue(1)))))
+        for other in ((A, A), (B, ("kern", -2))):
+            self.assertFalse(row_box((A, ("kern", 0)), to=30) == row_box(other, to=30))
+        self.assertFalse(row_box((("kern", 3), A, ("kern", 0)), to=30) == row_box((("kern", 3), A, ("kern", 1)), to=30))
+        loose = (A, ("glue", Glue(3, stretch=1)), ("glue", Glue(3, stretch=1)))
+        self.assertFalse(row_box((*loose, ("glue", Glue(0, stretch=1))), to=40) == row_box((*loose, ("glue", Glue(0, shrink=1))), to=40))
         tight = (("rule", 4, 1, 1), ("glue", Glue(3, stretch=1)), ("glue", Glue(3, stretch=1)))
         self.assertFalse(column_box((("rule", 4, 1, 1), ("kern", 3)), to=9) == column_box((("kern", 3), ("rule", 4, 1, 1)), to=9))
         self.assertTrue(row_box(tight, to=11) == row_box(tight, spread=1))

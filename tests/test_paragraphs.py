@@ -155,6 +155,7 @@ class Words(unittest.TestCase):
                 self.assertRaises(InvalidOperation, text_items, STYLE, value)
                 self.assertRaises(InvalidOperation, text_paragraph, STYLE, value, depth="x")
         self.assertEqual(text_items(STYLE, " " * 20000), ())
+        self.assertRaises(UnknownName, text_items, STYLE, "~")
 
     def test_number_of_items(self):
         self.assertEqual(len(text_items(STYLE, "a " * 999 + "ab")), 2000)
@@ -223,6 +224,7 @@ class Hyphens(unittest.TestCase):
         items = text_items(STYLE, "ab " * 500)
         self.assertEqual(len(items), 1499)
         self.assertEqual(len(with_hyphens(STYLE, items)), 1999)
+        self.assertEqual(len(with_hyphens(STYLE, text_items(STYLE, "ab " * 500 + "a")[:-2] + (A,))), 2000)
         with self.assertRaises(TooMany) as caught:
             with_hyphens(STYLE, text_items(STYLE, "ab " * 500 + "aba"))
         self.assertEqual(caught.exception.limit, 2000)
@@ -373,6 +375,13 @@ class Breaking(unittest.TestCase):
             ahead = box.depth
         self.assertEqual(paragraph(style, items, depth=depth), tuple(told))
 
+    def test_the_least_room(self):
+        # A box of 54 and a room of 1: badness 100 in the third pass.
+        style = STYLE.changed(room=1, first=-1)
+        items = (("kern", 54), END, ("kern", 55))
+        self.assertEqual([Broken(style.changed(room=room), items).pass_number for room in (0, 1, 2)], [4, 3, 3])
+        self.assertEqual(len(Broken(style, items).papers()), 2)
+
     def test_letters_of_all_lines(self):
         draw = Random(31)
         for _ in range(200):
@@ -387,6 +396,8 @@ class Breaking(unittest.TestCase):
         broken = Broken(STYLE, some)
         self.assertTrue(broken == Broken(STYLE, some))
         self.assertTrue(broken == Broken(STYLE, some + (("glue", Glue(1)),)))
+        self.assertEqual(Broken(STYLE, (A, A)).way, Broken(STYLE, (B, B)).way)
+        self.assertTrue(Broken(STYLE, (A, A)) != Broken(STYLE, (B, B)))
         for other in (Broken(STYLE, some[:-1]), Broken(STYLE.changed(between=1), some), Broken(STYLE.changed(hyphen=10000), some), *ODD_VALUES):
             self.assertTrue(broken != other)
 
