@@ -1,8 +1,9 @@
 """A plain model of stages 14 and 15, straight from the points: pages are made anew whenever they are looked at."""
 
 from pagewright.base.glue import Glue
+from pagewright.base.lengths import MAX_LENGTH
 from pagewright.box.packing import column_box
-from pagewright.errors import InvalidLength
+from pagewright.errors import InvalidItem, InvalidLength
 
 CLOSING = (("glue", Glue(0, stretch=1, stretch_order=3)), ("penalty", -10000))
 FORCED = ("penalty", -10000)
@@ -85,13 +86,17 @@ def parts(items, style, start, stop, begin, end):
     own = [item for item in page_items(items, start, stop)]
     first = [item for item in own if is_solid(item)][0]
     height = first[1].height if first[0] == "box" else first[2]
+    if style.top - height > MAX_LENGTH:
+        raise InvalidItem("no glue")
     told = (("glue", Glue(max(0, style.top - height))), *[item for item in own if item[0] not in ("mark", "note")])
     return (*told, ("glue", style.skip), *boxes) if boxes else told
 
 
 def box(items, style, start, stop, begin, end):
     told = parts(items, style, start, stop, begin, end)
-    return column_box(told, to=style.height - column_box(told).depth)
+    last = told[-1]
+    depth = last[1].depth if last[0] == "box" else last[3] if last[0] == "rule" else 0
+    return column_box(told, to=style.height - max(0, depth))
 
 
 def cost(items, style, start, stop, begin, end):

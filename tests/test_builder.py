@@ -61,6 +61,31 @@ def drawn(seed, many, longest=14):
         yield tuple([drawn_item(draw) for _ in range(draw.randint(1, longest))]), drawn_style(draw), draw
 
 
+WIDE = row_box((("kern", MAX_LENGTH - 2),))
+# Its parts from the first solid one on take 4 units, but a place between them is no length.
+ODD_NOTE = note(("kern", -MAX_LENGTH), rule(1), ("kern", MAX_LENGTH), ("kern", MAX_LENGTH - 2), ("kern", -MAX_LENGTH), ("kern", 5 - MAX_LENGTH), ("penalty", 0), rule(1))
+
+
+def drawn_great_item(draw):
+    size = draw.choice((5, 1000, MAX_LENGTH // 3, MAX_LENGTH // 2, MAX_LENGTH - 7))
+    kind = draw.random()
+    if kind < 0.35:
+        return draw.choice((rule(size), rule(-size, 3), rule(3, size), ("box", WIDE, draw.choice((0, 2, 3, -4)))))
+    if kind < 0.6:
+        return ("kern", draw.choice((size, -size)))
+    if kind < 0.8:
+        return ("glue", Glue(draw.choice((size, -size, 0)), stretch=draw.choice((0, 1, size)), stretch_order=draw.choice((0, 0, 1)), shrink=draw.choice((0, 5, size)),
+                             shrink_order=draw.choice((0, 0, 2))))
+    return ("penalty", draw.choice((0, 0, 50, 10000, -10000)))
+
+
+def drawn_great(seed, many):
+    draw = Random(seed)
+    for _ in range(many):
+        style = PageStyle(draw.choice((20, 5000, MAX_LENGTH // 2, MAX_LENGTH)), top=draw.choice((0, 10, MAX_LENGTH // 4)))
+        yield tuple([drawn_great_item(draw) for _ in range(draw.randint(1, 8))]), style, draw
+
+
 def told(page):
     return page.start, page.stop, page.begin, page.end, page.cost, page.box, page.marks
 
@@ -199,19 +224,43 @@ class Pages(unittest.TestCase):
         self.assertRaises(InvalidLength, page_of, back, STYLE, 0, 3, (0, 0), (0, 0))
 
     def test_pieces_that_are_refused(self):
-        whole = column_box((("rule", 1, 5, 0), ("kern", MAX_LENGTH - 5), ("penalty", 0), ("kern", -MAX_LENGTH + 7), ("rule", 1, 1, 0), ("kern", 3)))
-        row = (LINE, ("note", whole), GAP)
-        for end in ((0, 2), (1, 0)):
-            self.assertIs(plain.can_end(row, STYLE, 2, (0, 0), end), end == (1, 0))
-        self.assertRaises(InvalidPage, page_of, row, STYLE, 0, 2, (0, 0), (0, 2))
-        self.assertEqual(page_of(row, STYLE, 0, 2, (0, 0), (1, 0)).end, (1, 0))
-        self.assertEqual(filled(row, STYLE, 0, 2, (0, 0)), (1, 0))
-        # From a cut on the line of a box can be no length, though that of the whole note is one.
-        odd = column_box((("rule", 1, 1, 0), ("kern", -MAX_LENGTH), ("penalty", 0), ("kern", MAX_LENGTH), ("rule", 1, 4, 0), ("penalty", 0), ("rule", 1, MAX_LENGTH - 9, 0),
-                          ("kern", -MAX_LENGTH + 9)))
-        row = (LINE, ("note", odd), GAP)
-        for end in ((0, 2), (0, 5), (1, 0)):
-            self.assertIs(plain.can_end(row, STYLE, 2, (0, 2), end), page_fine(row, (0, 2), end))
+        small = note(rule(2))
+        row = (LINE, small, ODD_NOTE, small, GAP)
+        self.assertEqual(plain.cuts(row), [(0, 0), (1, 0), (1, 6), (2, 0), (3, 0)])
+        fine = {begin: [end for end in plain.cuts(row) if plain.can_end(row, STYLE, 4, begin, end)] for begin in plain.cuts(row)}
+        self.assertEqual(fine[(0, 0)], [(0, 0), (1, 0)])
+        self.assertEqual(fine[(1, 6)], [(1, 6), (2, 0), (3, 0)])
+        for begin in fine:
+            self.assertEqual(filled(row, STYLE, 0, 4, begin), fine[begin][-1])
+            for end in plain.cuts(row):
+                if end in fine[begin]:
+                    self.assertEqual(page_of(row, STYLE, 0, 4, begin, end).end, end)
+                else:
+                    self.assertRaises(InvalidPage, page_of, row, STYLE, 0, 4, begin, end)
+        builder = Builder(STYLE)
+        for item in row:
+            builder.put(item)
+        self.assertEqual(builder.best, (4, (1, 0), (0, 10000)))
+        self.assertRaises(InvalidLength, builder.finish)
+        self.assertEqual((builder.is_finished, builder.held), (False, row))
+
+    def test_great_sizes(self):
+        found = {True: 0, False: 0}
+        for row, style, draw in drawn_great(43, 700):
+            for start in range(len(row)):
+                for stop in plain.places(row):
+                    if plain.page_items(row, start, stop) is not None:
+                        try:
+                            cost, box = plain.cost(row, style, start, stop, (0, 0), (0, 0)), plain.box(row, style, start, stop, (0, 0), (0, 0))
+                        except (InvalidLength, InvalidItem) as error:
+                            found[False] += 1
+                            self.assertRaises(type(error), page_of, row, style, start, stop, (0, 0), (0, 0))
+                            self.assertRaises(type(error), filled, row, style, start, stop, (0, 0))
+                        else:
+                            found[True] += 1
+                            page = page_of(row, style, start, stop, (0, 0), (0, 0))
+                            self.assertEqual((page.cost, page.box), (cost, box))
+        self.assertGreater(min(found.values()), 150)
 
     def test_no_items_of_a_column(self):
         low = ("rule", 1, -MAX_LENGTH, 0)
@@ -243,15 +292,6 @@ class Pages(unittest.TestCase):
             self.assertTrue(page != other)
         one, two = [page_of(row, STYLE, 0, 5, (0, 0), end) for end in ((0, 0), (0, 1))]
         self.assertTrue(one != two)
-
-
-def page_fine(row, begin, end):
-    try:
-        return page_of(row, STYLE, 0, 2, begin, end) is not None
-    except InvalidPage:
-        return False
-    except InvalidLength:
-        return True
 
 
 class Builders(unittest.TestCase):
@@ -405,6 +445,94 @@ class Builders(unittest.TestCase):
         for item in (GAP, ("penalty", 0), FORCED):
             self.assertRaises(InvalidLength, builder.put, ("penalty", 0))
             self.assertEqual((builder.rest, builder.start), (rest, 0))
+
+    def test_great_sizes(self):
+        refused = 0
+        for items, style, draw in drawn_great(44, 250):
+            builder, row, pages = Builder(style), (), []
+            for item in items:
+                try:
+                    model = plain.built(row + (item,), style, False)
+                except (InvalidLength, InvalidItem) as error:
+                    self.assertRaises(type(error), builder.put, item)
+                    refused += 1
+                else:
+                    row = row + (item,)
+                    pages += builder.put(item)
+                    self.assertEqual([told(page) for page in pages], model[0])
+                    self.assertEqual((builder.best, builder.start, builder.held), (model[2], model[3], row[model[3]:]))
+        self.assertGreater(refused, 30)
+
+    def test_what_comes_behind_a_refused_item(self):
+        draw = Random(45)
+        for _ in range(60):
+            items = [drawn_item(draw) for _ in range(draw.randint(3, 12))]
+            at = draw.randint(1, len(items))
+            one, other = Builder(STYLE), Builder(STYLE)
+            pages = [page for item in items[:at] for page in one.put(item)]
+            rest = one.rest
+            # A kern that is too great is taken; what would be a place behind it is refused, and so nothing is changed by it.
+            twin = one.twin()
+            for item in (("kern", MAX_LENGTH), rule(1), LONG_NOTE, ("kern", MAX_LENGTH)):
+                twin.put(item)
+            held = twin.rest
+            for item in (("penalty", 0), FORCED):
+                self.assertRaises(InvalidLength, twin.put, item)
+                self.assertEqual(twin.rest, held)
+            self.assertEqual(one.rest, rest)
+            self.assertRaises(InvalidLength, twin.finish)
+            self.assertEqual(twin.rest, held)
+            pages += [page for item in items[at:] for page in one.put(item)] + list(one.finish())
+            self.assertEqual([told(page) for page in pages], [told(page) for item in items for page in other.put(item)] + [told(page) for page in other.finish()])
+
+    def test_going_on_behind_refused_places(self):
+        row = (LINE, ("kern", MAX_LENGTH), LONG_NOTE, ("kern", MAX_LENGTH), ("kern", -MAX_LENGTH), ("kern", -MAX_LENGTH))
+        builder = Builder(STYLE)
+        for item in row[:4]:
+            builder.put(item)
+        for item in (("penalty", 5), ("glue", Glue(3)), FORCED) * 3:
+            if item[0] == "penalty":
+                self.assertRaises(InvalidLength, builder.put, item)
+        builder.put(("mark", "x"))
+        self.assertRaises(InvalidLength, builder.put, GAP)
+        self.assertEqual((len(builder.held), builder.best, builder.waiting), (5, None, ()))
+
+    def test_rests_of_notes(self):
+        style = PageStyle(30, notes=5)
+        builder = Builder(style)
+        pages = [page for item in (LINE, LONG_NOTE, note(rule(3)), FORCED) for page in builder.put(item)]
+        self.assertEqual([page.end for page in pages], [(0, 1)])
+        self.assertEqual((builder.cut, builder.waiting), ((0, 1), (LONG_NOTE[1].content[1:], (rule(3),))))
+        self.assertEqual(builder.rest, (builder.waiting, (FORCED,), "", True))
+        self.assertEqual(builder.twin().rest, builder.rest)
+        pages = [page for item in (LINE, FORCED) for page in builder.put(item)]
+        self.assertEqual((pages[0].begin, pages[0].end, builder.waiting), ((0, 1), (0, 3), (LONG_NOTE[1].content[3:], (rule(3),))))
+        last = builder.finish()
+        self.assertEqual([page.end for page in last], [(0, 5), (1, 0), (2, 0)])
+        self.assertEqual((builder.waiting, builder.rest), ((), ((), (), "", False)))
+        # A builder whose first waiting note has the same items left, but is not set in part, has another rest.
+        other = Builder(style)
+        for item in (LINE, note(*LONG_NOTE[1].content[1:]), note(rule(3)), FORCED):
+            other.put(item)
+        self.assertNotEqual(other.rest, pages)
+
+    def test_numbers_of_inner_items(self):
+        crowd = ("box", column_box((("kern", 0),) * 1998), 0)
+        builder = Builder(PageStyle(MAX_LENGTH))
+        for _ in range(499):
+            builder.put(crowd)
+        builder.put(("penalty", 0))
+        self.assertEqual(builder.best[0], 499)
+        builder.put(crowd)
+        builder.put(("penalty", 0))
+        # 500 boxes with 1998 items each, and 1000 parts: just one million.
+        for _ in range(497):
+            builder.put(("kern", 0))
+        builder.put(("penalty", 0))
+        held = builder.held
+        builder.put(("kern", 0))
+        self.assertRaises(InvalidItem, builder.put, ("penalty", 0))
+        self.assertEqual(builder.held, held + (("kern", 0),))
 
     def test_number_of_items(self):
         builder = Builder(PageStyle(MAX_LENGTH))

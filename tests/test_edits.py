@@ -240,6 +240,19 @@ class Edits(unittest.TestCase):
         self.assertEqual(document.log[-1], ("fault", 7, "ended"))
         self.check(document)
 
+    def test_edits_that_change_how_many_entries_come_ahead(self):
+        full, fine = "\\rowbox to 5u{a}\\penalty-10000 ", "\\rowbox to 15u{a}\\penalty-10000 "
+        document = made((full, "`", full, full, "`", fine))
+        self.assertEqual(document.log, (("full", 0, 5), ("full", 2, 5), ("full", 3, 5)))
+        for edit, told in (((0, 1, (fine,)), (0, 1)), ((3, 1, (fine, fine)), (3, None)), ((4, 1, ()), (4, None)), ((0, 1, (full,)), (0, 1)), ((2, 1, (fine,)), (2, 3)),
+                           ((1, 1, ("`", "`")), (1, 3)), ((4, 1, (full,)), (4, 5)), ((5, 0, ("`",)), (5, 6)), ((3, 1, (full,)), (3, 4)), ((0, 2, ("`", fine)), (0, 2))):
+            self.assertEqual(document.edit(*edit), told, edit)
+            self.check(document)
+        self.assertEqual(document.log, (("full", 3, 5), ("full", 4, 5)))
+
+    def test_the_limit_that_is_not_told(self):
+        self.assertTrue(made(("a",)) == Document(("a",), STYLES, "ten", PAGE, limit=1000))
+
     def test_a_press_that_has_stopped(self):
         document = made(("\\rowbox{a}\\penalty-10000 ", "\\nope", "a", "b"))
         self.assertEqual((document.rests, document.log), ((0, 1, 2, 3, 4), (("fault", 1, "token"),)))

@@ -184,6 +184,15 @@ class Paragraphs(unittest.TestCase):
         press.feed("a\n\n")
         self.assertGreaterEqual(len(press.pages), gone)
 
+    def test_depths_in_inner_columns(self):
+        outer = main_items("\\columnbox{\\rowbox{a}\\columnbox{\\rowbox{b}a}}")[0][1]
+        inner = (("box", row_box((B,)), 0),) + self.lines("a", depth=2)
+        self.assertEqual(outer.content, (("box", row_box((A,)), 0), ("box", column_box(inner), 0)))
+        outer = main_items("\\rowbox{b}\\columnbox{\\columnbox{a}}")[1][1]
+        self.assertEqual(outer.content, (("box", column_box(self.lines("a")), 0),))
+        outer = main_items("\\columnbox{\\rowbox{b}\\columnbox{a}}")[0][1]
+        self.assertEqual(outer.content[1], ("box", column_box(self.lines("a")), 0))
+
     def test_the_depth_of_a_box_whose_page_has_gone_out(self):
         pages, log = set_text("\\rowbox{b}\\rowbox{b}\\skip0u\\rowbox{b}a", STYLES, "ten", PageStyle(25))
         self.assertEqual(log, ())
@@ -241,6 +250,25 @@ class Assignments(unittest.TestCase):
         self.assertEqual(self.value("{\\everywhere\\define\\d{a}}", "meaning", ("word", "d")).body, tokens_of("a`"))
         self.assertEqual(self.value("\\define\\d#1 {#1}", "meaning", ("word", "d")).delimiters, ((("sign", " ", "blank"),),))
         self.assertEqual(row_items("\\define\\d#1{#1#1}\\d{ab}c"), word_items(STYLE, "ababc"))
+
+    def test_bodies_are_not_expanded(self):
+        self.assertEqual(self.value("\\define\\d{a}\\define\\e{\\d}", "meaning", ("word", "e")).body, tokens_of("\\d`"))
+        self.assertEqual(row_items("\\define\\d{a}\\longdefine\\e{\\d}\\fulldefine\\f{\\d}\\define\\d{b}\\e\\kern1u \\f"), (B, ("kern", 1), A))
+
+    def test_blanks_are_passed_over(self):
+        # Behind a word of another sign a blank comes.
+        for text, key, value in (("\\let\\! =b", "!", ("sign", "b", "letter")), ("\\let\\! b", "!", ("sign", "b", "letter")),
+                                 ("\\let\\r=\\row\\let\\! =\\r\\! 3 {b}", "!", ("command", "row")), ("\\let\\! \\let\\! \\? =a", "?", ("sign", "a", "letter"))):
+            self.assertEqual(self.value(text, "meaning", ("word", key)), value)
+        self.assertEqual(self.value("\\let\\!=\\define\\! \\? {b}", "meaning", ("word", "?")), macro_of((), tokens_of("b`")))
+        self.assertEqual(self.value("\\let\\!=\\define\\! \\? #1 {b}", "meaning", ("word", "?")), macro_of(tokens_of("#1 {")[:-2], tokens_of("b`")))
+        self.assertEqual(self.value("\\let\\!=\\change\\! {!} {letter}", "sort", "!"), "letter")
+        self.assertEqual(self.value("\\let\\!=\\row\\! \\number4 = {b}", "row", 0), tokens_of("b`"))
+        self.assertEqual(self.value("\\let\\!=\\everywhere\\let\\?=\\add{\\! \\? \\number3 4 }", "number", 3), 4)
+        self.assertEqual(row_items("\\let\\!=\\rowbox\\! to5u{a}\\! spread 5u{a}\\! {a}"), (
+            ("box", row_box((A,), to=5), 0), ("box", row_box((A,), spread=5), 0), ("box", row_box((A,)), 0)))
+        self.assertEqual(row_items("\\let\\!=\\shift\\! 1u\\rowbox{a}\\let\\!=\\part\\! {} {} {a}"), (("box", row_box((A,)), 1), ("part", (), (), (A,))))
+        self.assertEqual(row_items("\\let\\!=\\mark\\! {a}\\let\\!=\\note\\! {}"), (("mark", "a"), ("note", column_box(()))))
 
     def test_full_definitions(self):
         text = "\\define\\d{ab}\\fulldefine\\e{\\d\\keep\\d\\number#}"
@@ -377,6 +405,20 @@ class Refused(unittest.TestCase):
     def held(self, press):
         return press.modes, press.level, press.pages, press.value_of("number", 7), press.value_of("number", 3), press.value_of("row", 99)
 
+    def test_nothing_is_done_of_a_group_end_that_is_refused(self):
+        press = pressed("\\number3=1 \\note{\\number3=5 \\mark{a}\\everywhere\\number4=6 \n")
+        press.feed("}\n")
+        self.assertEqual((press.log, press.level, press.modes, press.value_of("number", 3), press.value_of("number", 4)),
+                         ((("fault", 1, "note"),), 1, ("column", "inner column"), 5, 6))
+        press = pressed("\\columnbox to 1u{\\number3=5 a\\skip 1u minus 1fil \n")
+        press.feed("}\n")
+        self.assertEqual((press.log, press.level, press.modes, press.value_of("number", 3)), ((("fault", 1, "par"),), 1, ("column", "inner column", "row"), 5))
+
+    def test_groups_of_5000_tokens(self):
+        for many, word in ((4996, None), (4997, "mark")):
+            told = fault_of("\\mark{\\iffalse " + "a" * many + "\\fi}")
+            self.assertEqual(told, word and ("fault", 0, word))
+
     def test_a_press_that_has_stopped_does_nothing(self):
         press = pressed("\\rowbox{a}\\penalty-10000 \\nope\\number3=5\n")
         pages = press.pages
@@ -402,6 +444,15 @@ class Refused(unittest.TestCase):
         self.assertEqual(fault_of("\\columnbox{" * 49 + "\\part{}{}{}"), ("fault", 0, "lists"))
         self.assertIsNone(fault_of("\\columnbox{" * 48 + "a" + "}" * 48))
         self.assertIsNone(fault_of("{" + "\\behind\\par" * 100 + "}"))
+
+    def test_the_limit_that_is_not_told(self):
+        text = "\\define\\d#1{}" + "\\d a" * 1000
+        self.assertEqual(set_text(text, STYLES, "ten", TALL)[1], ())
+        self.assertEqual(set_text(text + "\\d a", STYLES, "ten", TALL)[1], (("fault", 0, "steps"),))
+        press = Press(STYLES, "ten", TALL)
+        press.feed(text + "\n" + text[13:] + "\n" + text[13:] + "\\d a\n")
+        self.assertEqual(press.log, (("fault", 2, "steps"),))
+        self.assertEqual(Press(STYLES, "ten", TALL, limit=1).log, ())
 
     def test_steps(self):
         self.assertIsNone(fault_of("\\define\\d{}\\d\\d\\d\n", limit=3))
@@ -552,6 +603,18 @@ class Output(unittest.TestCase):
         press = pressed(text, PageStyle(12))
         self.assertEqual((press.pages, press.log, press.value_of("number", 94), press.value_of("number", 5), press.level, press.modes),
                          ((), (("fault", 2, "token"),), 0, 0, 0, ("column", "row")))
+
+    def test_nothing_is_done_at_the_end_if_an_output_fails(self):
+        text = "\\everywhere\\row90={\\ifnumber\\number94=2 \\nope\\fi\\everywhere\\number5=\\number94 }\\skip1u\\rule1u9u0u\\kern1u\\rule1u9u0u"
+        press = pressed(text + "\\note{\\rule1u1u0u}\\kern0u", PageStyle(9, notes=1))
+        self.assertEqual(press.finish(), ())
+        self.assertEqual((press.pages, press.log, press.value_of("number", 94), press.value_of("number", 5), press.level), ((), (("fault", 0, "token"),), 0, 0, 0))
+
+    def test_page_boxes_behind_the_output(self):
+        text = "\\row90={}\\rowbox{a}\\penalty-10000 "
+        for ahead in ("\\row90={\\kern1u}", "\\row90={\\pagebox}"):
+            press = pressed(ahead + text[9:] + "\\columnbox{\\pagebox}\n", PAGE)
+            self.assertEqual((press.log, len(press.pages), press.modes), ((("fault", 0, "pagebox"),), 1, ("column", "inner column")))
 
     def test_group_and_list_limits(self):
         ahead = "\\row90={\\pagebox}" + "{" * 100 + "\\everywhere\\number3=1 "

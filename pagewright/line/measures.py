@@ -171,7 +171,7 @@ class Measures:
         """The triple of the rest of a line with a width, of its badness, and of by how many units it is too full."""
         rest = width - self.natural_width(start, place, end)
         stretches = self.stretches_between(start, end)
-        has_much_stretch = stretches[1] + stretches[2] + stretches[3] > 0
+        has_much_stretch = max(stretches[1:]) > 0
         badness, too_full = judged(rest, has_much_stretch, stretches[0], self.shrink_between(start, end))
         return (rest, badness, too_full)
 

@@ -236,22 +236,22 @@ class Builder:
         self._check_unfinished()
         if len(self._making.column.members) == MAX_HELD:
             raise TooMany(MAX_HELD)
-        mark = self.mark()
+        mark = self._making.mark()
         try:
             told = self._making.put_all((item,))
         except (InvalidLength, InvalidItem):
-            self.go_back(mark)
+            self._making.go_back(mark)
             raise
         return told_pages(told)
 
     def finish(self):
         """Ends the items, and returns the tuple of the last pages."""
         self._check_unfinished()
-        mark = self.mark()
+        mark = self._making.mark()
         try:
             told = self._making.finish_all()
         except (InvalidLength, InvalidItem):
-            self.go_back(mark)
+            self._making.go_back(mark)
             raise
         self._is_finished = True
         return told_pages(told)
@@ -260,15 +260,6 @@ class Builder:
         """Raises `InvalidOperation` behind `finish`."""
         if self._is_finished:
             raise InvalidOperation("the builder is finished")
-
-    def mark(self):
-        """All that is told to `go_back`."""
-        return (self._making.mark(), self._is_finished)
-
-    def go_back(self, mark):
-        """Makes all as it was when a mark was made, if nothing was gone back to that is older."""
-        told, self._is_finished = mark
-        self._making.go_back(told)
 
     @property
     def style(self):

@@ -102,10 +102,10 @@ class Document:
 
     def twin(self):
         """An independent copy, with no work so far."""
+        # A document without lines has no work, and shares nothing.
         other = Document((), self._styles, self._others[0], self._others[1], limit=self._others[2])
         other._lines = self._lines
         other._outcome = self._outcome
-        other._work = 0
         return other
 
     def __len__(self):

@@ -48,7 +48,7 @@ class Engine:
         self._present = self.machine
         # While such tokens are done: how many lists are open with their column, and the box of the page, or None.
         self._page_box = None
-        # What the scope and the builder were ahead of the present deed, if it changes them.
+        # The state of the scope ahead of the present deed, if this changes more than one thing in it.
         self._backup = None
         # A copy of the builder that is as it is now, or None.
         self._copy = held.builder
@@ -87,14 +87,13 @@ class Engine:
 
     def _attempt(self, deed):
         """Does a deed; nothing of it, if it cannot be done."""
-        mark = (self.lists, self._last_depth, len(self.boxes), len(self.log))
+        mark = (self.lists, len(self.boxes), len(self.log))
         self._backup = None
         try:
             do(self, deed)
         except Fault as fault:
             self._go_back(mark)
             self._stop_for(fault.word)
-        self._backup = None
         sorts = self.scope.sorts
         if sorts != self.reader.sorts:
             for sign in SIGNS:
@@ -102,21 +101,17 @@ class Engine:
                     self.reader.change(sign, sorts[sign])
 
     def _go_back(self, mark):
-        """Makes all as it was ahead of a deed."""
-        self.lists, self._last_depth, many_boxes, many_entries = mark
+        """Makes all that can be told of a press that has stopped as it was ahead of a deed."""
+        self.lists, many_boxes, many_entries = mark
         del self.boxes[many_boxes:]
         del self.log[many_entries:]
-        self._present = self.machine
-        self._page_box = None
         if self._backup is not None:
-            scope_state, builder_mark = self._backup
-            self.scope.restore(scope_state)
-            self._builder.go_back(builder_mark)
+            self.scope.restore(self._backup)
 
     def _back_up(self):
-        """Notes what the scope and the builder are, ahead of the first change that the present deed makes."""
+        """Notes the state of the scope ahead of the first change that the present deed makes."""
         if self._backup is None:
-            self._backup = (self.scope.state, self._builder.mark())
+            self._backup = self.scope.state
 
     def _stop_for(self, word):
         """Stops for a fault."""
@@ -198,7 +193,6 @@ class Engine:
         if self.scope.level > 0 or len(self.machine.conditions) > 0 or len(self.lists) > 1:
             raise Fault("ended")
         self._back_up()
-        self._copy = None
         for page in self._builder.finish():
             self._go_out(page)
 

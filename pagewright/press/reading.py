@@ -70,14 +70,12 @@ def take_group(machine, word):
     return rest_of_group(machine, word)
 
 
-def take_parameters(machine, word):
+def take_parameters(machine):
     """The row of the tokens up to the next open token, which is taken, too."""
     tokens = []
     token = taken_behind_blanks(machine)
     while change_of_depth(token) != 1:
         tokens.append(token)
-        if len(tokens) > MAX_ROW:
-            raise Fault(word)
         token = machine.must_take()
     return tuple(tokens)
 
@@ -121,7 +119,7 @@ def read_addition(machine, word):
 def read_definition(machine, word):
     """What `define`, `longdefine` and `fulldefine` read."""
     name = take_name(machine, word)
-    parameters = take_parameters(machine, word)
+    parameters = take_parameters(machine)
     if word == "fulldefine" and len(parameters) > 0:
         raise Fault(word)
     body = rest_of_group(machine, word)
