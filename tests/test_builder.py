@@ -346,6 +346,7 @@ class Builders(unittest.TestCase):
         self.assertEqual(ends[-1], (len(plain.notes(row)), 0) if pages else (0, 0))
 
     def test_equal_rests(self):
+        many = 0
         for row, style, draw in drawn(42, 120):
             first = Builder(style)
             for item in row:
@@ -356,10 +357,12 @@ class Builders(unittest.TestCase):
             pages = [page for item in (*lead, *row) for page in second.put(item)]
             self.assertGreaterEqual(len(pages), 2)
             if second.rest == first.rest:
+                many += 1
                 more = [drawn_item(draw) for _ in range(8)]
                 one = [page for item in more for page in first.put(item)] + list(first.finish())
                 two = [page for item in more for page in second.put(item)] + list(second.finish())
                 self.assertEqual([(page.box, page.cost, page.marks) for page in one], [(page.box, page.cost, page.marks) for page in two])
+        self.assertGreater(many, 20)
 
     def test_forced_places(self):
         builder = Builder(STYLE)
@@ -497,6 +500,51 @@ class Builders(unittest.TestCase):
         self.assertRaises(InvalidLength, builder.put, GAP)
         self.assertEqual((len(builder.held), builder.best, builder.waiting), (5, None, ()))
 
+    def test_what_is_refused_behind_a_page_that_goes_out(self):
+        # The page up to the last place is too full, so it goes out at the first one; but behind this the sum is no length.
+        row = (note(rule(3)), rule(5), ("penalty", 0), ("kern", 10 - MAX_LENGTH), rule(5), ("kern", MAX_LENGTH), ("kern", MAX_LENGTH - 50))
+        builder = Builder(STYLE)
+        for item in row:
+            self.assertEqual(builder.put(item), ())
+        told_ahead = (builder.rest, builder.best, builder.start, builder.cut)
+        for item in (("penalty", 0), FORCED, ("penalty", 9)):
+            self.assertRaises(InvalidLength, builder.put, item)
+            self.assertEqual((builder.rest, builder.best, builder.start, builder.cut), told_ahead)
+        self.assertRaises(InvalidLength, builder.finish)
+        self.assertEqual((builder.rest, builder.best, builder.start, builder.cut, builder.is_finished), (*told_ahead, False))
+        builder.put(("kern", 40 - MAX_LENGTH))
+        self.assertEqual([(str(page), page.end) for page in builder.put(FORCED)], [("page 0 to 8", (1, 0))])
+
+    def test_what_is_held_behind_the_end(self):
+        for row in ((), (GAP,), (("mark", "x"), ("penalty", 0))):
+            builder = Builder(STYLE)
+            for item in row:
+                builder.put(item)
+            self.assertEqual((builder.finish(), builder.held, builder.start), ((), row, 0))
+        builder = Builder(STYLE)
+        builder.put(LINE)
+        builder.finish()
+        self.assertEqual((builder.held, builder.start), ((FORCED,), 2))
+
+    def test_one_waiting_note(self):
+        builder = Builder(PageStyle(30, notes=5))
+        for item in (LINE, LONG_NOTE, FORCED):
+            builder.put(item)
+        self.assertEqual((builder.waiting, builder.cut), ((LONG_NOTE[1].content[1:],), (0, 1)))
+
+    def test_great_notes(self):
+        half = MAX_LENGTH // 2
+        row = (LINE, note(rule(half)), note(rule(half)), note(rule(half)), GAP)
+        style = PageStyle(MAX_LENGTH, notes=MAX_LENGTH)
+        self.assertEqual(page_of(row, style, 0, 4, (0, 0), (1, 0)).cost, (0, 10000))
+        for begin, end in (((0, 0), (2, 0)), ((1, 0), (3, 0))):
+            self.assertRaises(InvalidLength, page_of, row, style, 0, 4, begin, end)
+            self.assertRaises(InvalidLength, plain.cost, row, style, 0, 4, begin, end)
+        self.assertRaises(InvalidPage, page_of, row, style, 0, 4, (0, 0), (3, 0))
+        skip = PageStyle(MAX_LENGTH, skip=Glue(MAX_LENGTH))
+        self.assertRaises(InvalidLength, page_of, (LINE, note(rule(3)), GAP), skip, 0, 2, (0, 0), (1, 0))
+        self.assertEqual(page_of((LINE, note(rule(3)), GAP), skip, 0, 2, (0, 0), (0, 0)).cost, (0, 10000))
+
     def test_rests_of_notes(self):
         style = PageStyle(30, notes=5)
         builder = Builder(style)
@@ -518,7 +566,7 @@ class Builders(unittest.TestCase):
 
     def test_numbers_of_inner_items(self):
         crowd = ("box", column_box((("kern", 0),) * 1998), 0)
-        builder = Builder(PageStyle(MAX_LENGTH))
+        builder = Builder(PageStyle(10 ** 6))
         for _ in range(499):
             builder.put(crowd)
         builder.put(("penalty", 0))

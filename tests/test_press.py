@@ -439,6 +439,8 @@ class Refused(unittest.TestCase):
         boxes = "\\rowbox{" * 49
         self.assertEqual(pressed(boxes + "\n").modes, ("column",) + ("inner row",) * 49)
         self.assertEqual(fault_of(boxes + "\\rowbox{"), ("fault", 0, "lists"))
+        press = pressed(boxes + "\n\\everywhere\\number3=5 \\rowbox{\n")
+        self.assertEqual((press.log, press.level, press.modes, press.value_of("number", 3)), ((("fault", 1, "lists"),), 49, ("column",) + ("inner row",) * 49, 5))
         self.assertEqual(fault_of("\\columnbox{" * 49 + "a"), ("fault", 0, "lists"))
         self.assertEqual(fault_of("\\columnbox{" * 49 + "\\indent"), ("fault", 0, "lists"))
         self.assertEqual(fault_of("\\columnbox{" * 49 + "\\part{}{}{}"), ("fault", 0, "lists"))
@@ -777,6 +779,25 @@ class WrittenOut(unittest.TestCase):
                 plain = plain.replace("\\y{" + argument + "}", bodies["y"].replace("#1", argument))
             ahead = f"\\define\\x{{{bodies['x']}}}\\define\\y#1{{{bodies['y']}}}`\n"
             self.assertEqual(set_text(ahead + text, STYLES, "ten", PAGE)[0], set_text("`\n" + plain, STYLES, "ten", PAGE)[0], text)
+
+
+class PlainTexts(unittest.TestCase):
+    def test_drawn(self):
+        """Paragraphs of words alone: the pages are those that a builder makes of the items of all paragraphs."""
+        draw = Random(73)
+        for _ in range(60):
+            words = [["".join([draw.choice("abc") for _ in range(draw.randint(1, 5))]) for _ in range(draw.randint(1, 12))] for _ in range(draw.randint(1, 6))]
+            page = PageStyle(draw.choice((12, 30, 45, 90)), top=draw.choice((0, 9)))
+            builder, boxes, depth, log, line = Builder(page), [], None, [], -1
+            for paragraph_words in words:
+                items = paragraph(STYLE, text_items(STYLE, " ".join(paragraph_words)), depth=depth)
+                line += 2
+                log += [("full", line, item[1].excess) for item in items if item[0] == "box" and item[1].excess > 0]
+                boxes += [made.box for item in items for made in builder.put(item)]
+                depth = items[-1][1].depth
+            boxes += [made.box for made in builder.finish()]
+            text = "".join([" ".join(paragraph_words) + "\n\n" for paragraph_words in words])
+            self.assertEqual(set_text(text, STYLES, "ten", page), (tuple(boxes), tuple(log)))
 
 
 class LettersOfAllPages(unittest.TestCase):

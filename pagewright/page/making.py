@@ -53,7 +53,7 @@ class Making:
         return (self.first_item, self.first_note, self.index_of_cut)
 
     def go_back(self, mark):
-        """Makes all as it was when a mark was made."""
+        """Makes all as it was when a mark was made, if a glue or a penalty that was put behind it is refused."""
         many, self.column, numbers, self.unset, self.mark_ahead, self._best = mark
         self.first_item, self.first_note, self.index_of_cut = numbers
         self.column.cut_back(many)

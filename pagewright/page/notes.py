@@ -139,13 +139,6 @@ class Queue:
         self.notes.append(note)
         self._measure(note)
 
-    def cut_back(self, many):
-        """Keeps the first notes alone."""
-        del self.notes[many:]
-        del self._heights[many + 1:]
-        del self._sizes[many + 1:]
-        del self._refused[many + 1:]
-
     def has_cut(self, cut):
         """Whether a pair of integers of at least 0 is a cut."""
         number, index = cut

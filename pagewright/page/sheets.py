@@ -3,7 +3,7 @@
 from pagewright.errors import InvalidItem
 from pagewright.base.glue import Glue
 from pagewright.base.lengths import MAX_LENGTH, is_length
-from pagewright.box.items import MAX_ITEMS, MAX_PENALTY, MOST_WITH_INNER, are_column_items
+from pagewright.box.items import MAX_ITEMS, MAX_PENALTY, MOST_WITH_INNER
 from pagewright.box.packing import column_box, depth_of_column, height_of_solid, taken_by, width_in_column
 from pagewright.box.setting import excess_of, ugliness_of
 from pagewright.page.notes import Note, Queue, is_forced, is_place, is_solid, penalty_of, size_taken
@@ -92,14 +92,12 @@ class Column:
             shrinks.append(shrinks[-1] + shrink_of(item, order))
 
     def cut_back(self, many):
-        """Keeps the first items alone, so many ones."""
+        """Keeps the first items alone, so many ones; the others are glues and penalties."""
         del self.members[many:]
-        self.queue.cut_back(self._ahead[many])
         for sums in (self._ahead, self._taken, self._sizes, self._inner, self._widest):
             del sums[many + 1:]
         for sums in (*self._stretches, *self._shrinks):
             del sums[many + 1:]
-        self._solids = [index for index in self._solids if index < many]
         self._forced = [index for index in self._forced if index < many]
 
     def many_solids(self):
@@ -266,6 +264,4 @@ class Sheet:
     def made_box(self, begin, end):
         """The box of the page."""
         parts = self.parts(begin, end)
-        if not are_column_items(parts):
-            raise InvalidItem("no items of a column")
         return column_box(parts, to=self._style.height - depth_of_column(parts, None))

@@ -278,8 +278,6 @@ class Engine:
         self.end_paragraph()
         try:
             self._put_box(word)
-        except Fault:
-            raise
         except (PressError, UnknownName, InvalidNumber, TooMany):
             raise Fault(word) from None
 
