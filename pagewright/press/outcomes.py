@@ -64,7 +64,7 @@ def with_tail(outcome, end, old, shift):
     entries_ahead = dict(outcome.entries_ahead)
     more_out = held.many_out - old_held.many_out
     more_entries = entries_ahead[end] - old.entries_ahead[old_end]
-    for place in old.rests:
+    for place in list(old.rests):
         if place > old_end:
             line = moved_line(old.rests[place].line, old_end, shift, held.line)
             rests[place + shift] = old.rests[place].moved_to(line, more_out)
