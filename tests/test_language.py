@@ -229,6 +229,26 @@ class Forms(unittest.TestCase):
         classes = [node.name for _, node in self.nodes(ast.ClassDef)]
         self.assertEqual(len(classes), len(set(classes)))
 
+    def test_properties_and_operators_reach_nothing_that_changes_objects(self):
+        functions, roots = {}, []
+        for _, node in self.nodes(ast.FunctionDef):
+            functions.setdefault(node.name, []).append(node)
+            if node.name not in ("__init__", "__iter__") and (node.name.startswith("__") or "property" in map(ast.unparse, node.decorator_list)):
+                roots.append(node)
+        reached, waiting = set(), list(roots)
+        while waiting:
+            function = waiting.pop()
+            if function in reached:
+                continue
+            reached.add(function)
+            called = [node.func for node in ast.walk(function) if isinstance(node, ast.Call)]
+            for node in ast.walk(function):
+                name = getattr(node, "attr", getattr(node, "id", None))
+                if node in called or name in [root.name for root in roots]:
+                    waiting.extend(functions.get(name, ()) if name != "__init__" else ())
+                with self.subTest(function.name, name=name):
+                    self.assertFalse(isinstance(node, ast.Attribute) and isinstance(node.ctx, ast.Store))
+
     def test_strings(self):
         for place, node in self.nodes(ast.Constant):
             if isinstance(node.value, str):

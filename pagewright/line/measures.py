@@ -108,14 +108,14 @@ class Measures:
         self._shrinks = sums_of([shrink_in_line(item) for item in row])
         self._known_lines = {}
 
-    def is_part(self, place):
+    def is_part_at(self, place):
         """Whether a place, or -1, is a part."""
         return place >= 0 and self._row[place][0] == "part"
 
     def start_behind(self, place):
         """Where the line begins behind a place other than the end, or behind -1 [11.3]."""
         start = place + 1
-        if place == -1 or self.is_part(place):
+        if place == -1 or self.is_part_at(place):
             return start
         while not stays(self._row[start]) and not is_forced(self._row[start]):
             start += 1
@@ -152,9 +152,9 @@ class Measures:
     def natural_width(self, start, place, end):
         """The natural width of a line from a start to its end, with the place at which the line ahead ends."""
         width = self._widths[end] - self._widths[start]
-        if self.is_part(place):
+        if self.is_part_at(place):
             width = width + self._row[place][2]
-        if self.is_part(end):
+        if self.is_part_at(end):
             width = width + self._row[end][1]
         return width
 
@@ -196,7 +196,7 @@ class Measures:
             told = told + penalty ** 2
         else:
             told = told - penalty ** 2
-        if is_behind_part and self.is_part(end):
+        if is_behind_part and self.is_part_at(end):
             told = told + self._rules.double
         if is_behind_part and end == self.end:
             told = told + self._rules.last
@@ -224,9 +224,9 @@ class Measures:
     def _told_line(self, start, place, end, width):
         """A line as `lines_from` tells it."""
         rest, badness, too_full = self.judged_line(start, place, end, width)
-        demerits = self.demerits_alone(badness, end, self.is_part(place))
+        demerits = self.demerits_alone(badness, end, self.is_part_at(place))
         is_wrong = self.is_wrong_line(badness, too_full)
-        return (end, tightness_of(badness, rest), self.is_part(end), int(is_wrong), too_full, demerits)
+        return (end, tightness_of(badness, rest), self.is_part_at(end), int(is_wrong), too_full, demerits)
 
     def steps_from(self, node, cost, are_wrong_fine):
         """The list of the pairs of a node to which a step leads from a node, and of the cost behind it [11.9]."""

@@ -1,6 +1,6 @@
 """Paragraphs: items broken into lines, and the columns of these."""
 
-from pagewright.errors import InvalidItem, InvalidOperation, InvalidWay, TooMany
+from pagewright.errors import InvalidItem, InvalidLength, InvalidOperation, InvalidWay, TooMany
 from pagewright.base.glue import Glue
 from pagewright.base.lengths import check_length
 from pagewright.box.items import MAX_ITEMS, are_few, are_row_items, is_inner_frame
@@ -70,6 +70,24 @@ def measured(items):
     return measured_row(items)
 
 
+def line_box(line, width):
+    """The row of the items of a line."""
+    # Items in parts can be more than a row can have.
+    if not are_few(line):
+        raise InvalidItem("too many items in a line")
+    return packed_row(line, width, None)
+
+
+def boxes_or_refusal(lines, measures):
+    """The pair of the tuple of the rows of lines and None, or of None and a word for the error of the first one."""
+    try:
+        return (tuple([line_box(line, measures.width_for(index + 1)) for index, line in enumerate(lines)]), None)
+    except InvalidItem:
+        return (None, "item")
+    except InvalidLength:
+        return (None, "length")
+
+
 class Broken:
     """A broken paragraph. It never changes."""
 
@@ -90,6 +108,8 @@ class Broken:
             lines.append(line_items(self._content, place, self._measures.start_behind(place), end))
             place = end
         self._lines = tuple([tuple([item for item in line if not is_loose(item)]) for line in lines])
+        # The rows of the lines, or the error of the first one that is refused.
+        self._boxes, self._refusal = boxes_or_refusal(self._lines, self._measures)
         self._loose = tuple([tuple([item for item in line if is_loose(item)]) for line in lines])
 
     @property
@@ -135,15 +155,11 @@ class Broken:
     @property
     def boxes(self):
         """The tuple of the rows of the lines."""
-        return tuple([self._box_of(index) for index in range(len(self._lines))])
-
-    def _box_of(self, index):
-        """The row of the line with an index."""
-        line = self._lines[index]
-        # Items in parts can be more than a row can have.
-        if not are_few(line):
+        if self._refusal == "item":
             raise InvalidItem("too many items in a line")
-        return packed_row(line, self._measures.width_for(index + 1), None)
+        if self._refusal == "length":
+            raise InvalidLength("a line with a size that is no length")
+        return self._boxes
 
     def papers(self):
         """A paper of no way for each pass that told none, and at last a paper of breaks with the way, as a tuple."""
@@ -173,7 +189,7 @@ class Broken:
             penalty = penalty + style.behind_first
         if index == len(self._way) - 2:
             penalty = penalty + style.ahead_last
-        if self._measures.is_part(self._way[index]):
+        if self._measures.is_part_at(self._way[index]):
             penalty = penalty + style.behind_part
         return clamped(penalty)
 

@@ -120,7 +120,7 @@ def is_node(measures, value):
     place, number, tightness, is_part = value
     if not measures.is_place(place) or number < 1 or not is_between(tightness, 0, 3):
         return False
-    return measures.is_part(place) == is_part
+    return measures.is_part_at(place) == is_part
 
 
 def are_nodes(measures, value):
