@@ -43,6 +43,11 @@ def is_penalty(value):
     return len(value) == 2 and is_int(value[1]) and abs(value[1]) <= MAX_PENALTY
 
 
+def is_forced(item):
+    """Whether an item is a penalty at which a line or a page has to end."""
+    return item[0] == "penalty" and item[1] == -MAX_PENALTY
+
+
 def is_rule(value):
     """Whether a tuple is a black box."""
     return len(value) == 4 and all([size is None or is_length(size) for size in value[1:]])

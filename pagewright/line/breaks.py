@@ -3,7 +3,8 @@
 from pagewright.errors import InvalidNumber, InvalidOperation, InvalidRow, InvalidRules, InvalidWay
 from pagewright.base.integers import is_between
 from pagewright.base.lengths import is_length
-from pagewright.line.measures import Measures, is_forced, is_measured_item, tightness_of
+from pagewright.box.items import is_forced
+from pagewright.line.measures import Measures, is_measured_item, tightness_of
 from pagewright.line.search import StepSearch, cost_of_way, is_no_paper, is_paper, is_way_of
 
 MAX_ITEMS = 1000

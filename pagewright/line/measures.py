@@ -3,7 +3,7 @@
 from pagewright.base.glue import Glue
 from pagewright.base.integers import is_between, is_int, sums_of
 from pagewright.base.lengths import is_length
-from pagewright.box.items import MAX_PENALTY
+from pagewright.box.items import MAX_PENALTY, is_forced
 from pagewright.box.setting import badness_of
 
 MOST_BADNESS = 10000
@@ -25,11 +25,6 @@ def is_measured_item(value):
     if value[0] == "glue":
         return isinstance(value[1], Glue) and value[1].shrink_order == 0
     return value[0] == "penalty" and is_between(value[1], -MAX_PENALTY, MAX_PENALTY)
-
-
-def is_forced(item):
-    """Whether an item is a forced penalty."""
-    return item[0] == "penalty" and item[1] == -MAX_PENALTY
 
 
 def stays(item):

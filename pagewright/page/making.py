@@ -1,6 +1,6 @@
 """How pages are made of items that come one after the other [14.7]."""
 
-from pagewright.page.notes import is_forced
+from pagewright.box.items import is_forced
 from pagewright.page.sheets import Column, Sheet, closing_items
 
 
@@ -63,7 +63,7 @@ class Making:
         other = Making(self._style)
         many = self.column.notes_ahead(0)
         other.column = Column(self.column.queue.notes[:many])
-        for item in self.column.members:
+        for item in list(self.column.members):
             other.column.put(item)
         other.first_item, other.first_note, other.index_of_cut = self._beginning()
         other.unset = self.unset

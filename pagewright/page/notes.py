@@ -3,7 +3,7 @@
 from pagewright.errors import InvalidLength
 from pagewright.base.integers import sums_of
 from pagewright.base.lengths import MAX_LENGTH
-from pagewright.box.items import MAX_PENALTY
+from pagewright.box.items import MAX_PENALTY, is_forced
 from pagewright.box.packing import depth_of_solid, height_of_solid, packed_column, taken_by
 
 
@@ -18,11 +18,6 @@ def is_place(items, index):
     if item[0] == "penalty":
         return item[1] < MAX_PENALTY
     return item[0] == "glue" and index > 0 and items[index - 1][0] in ("box", "rule", "mark", "note")
-
-
-def is_forced(item):
-    """Whether an item is a forced penalty."""
-    return item[0] == "penalty" and item[1] == -MAX_PENALTY
 
 
 def penalty_of(item):

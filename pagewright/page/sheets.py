@@ -3,10 +3,10 @@
 from pagewright.errors import InvalidItem
 from pagewright.base.glue import Glue
 from pagewright.base.lengths import MAX_LENGTH, is_length
-from pagewright.box.items import MAX_ITEMS, MAX_PENALTY, MOST_WITH_INNER
+from pagewright.box.items import MAX_ITEMS, MAX_PENALTY, MOST_WITH_INNER, is_forced
 from pagewright.box.packing import column_box, depth_of_column, height_of_solid, taken_by, width_in_column
 from pagewright.box.setting import excess_of, ugliness_of
-from pagewright.page.notes import Note, Queue, is_forced, is_place, is_solid, penalty_of, size_taken
+from pagewright.page.notes import Note, Queue, is_place, is_solid, penalty_of, size_taken
 
 ORDERS = (0, 1, 2, 3)
 COST_OF_EXCESS = 10000
