@@ -229,6 +229,34 @@ class Forms(unittest.TestCase):
         classes = [node.name for _, node in self.nodes(ast.ClassDef)]
         self.assertEqual(len(classes), len(set(classes)))
 
+    def test_names_of_properties_are_stored_only_if_all_have_setters(self):
+        told, set_by = {}, {}
+        for place, node in self.nodes(ast.ClassDef):
+            for method in [inner for inner in node.body if isinstance(inner, ast.FunctionDef)]:
+                decorators = [ast.unparse(decorator) for decorator in method.decorator_list]
+                if "property" in decorators:
+                    told.setdefault(method.name, set()).add(node.name)
+                elif f"{method.name}.setter" in decorators:
+                    set_by.setdefault(method.name, set()).add(node.name)
+        for place, node in self.nodes(ast.Attribute):
+            if not isinstance(node.ctx, ast.Load):
+                with self.subTest(place, name=node.attr):
+                    self.assertLessEqual(told.get(node.attr, set()), set_by.get(node.attr, set()))
+
+    def test_what_objects_iterate_over(self):
+        barred = own_names()[1]
+        for _, node in self.nodes(ast.ClassDef):
+            barred |= {target.id for inner in node.body if isinstance(inner, ast.Assign) for target in inner.targets}
+        for place, node in self.nodes(ast.FunctionDef):
+            if node.name == "__iter__":
+                *told, last = node.body
+                with self.subTest(place):
+                    self.assertTrue(all([isinstance(inner.value, ast.Constant) for inner in told]))
+                    self.assertRegex(ast.unparse(last), r"^return iter\(self(\.\w+){1,2}\)$|^raise TypeError\(")
+                    if isinstance(last, ast.Return):
+                        names = {inner.attr for inner in ast.walk(last) if isinstance(inner, ast.Attribute)}
+                        self.assertEqual(names & barred, set())
+
     def test_properties_and_operators_reach_nothing_that_changes_objects(self):
         functions, roots = {}, []
         for _, node in self.nodes(ast.FunctionDef):

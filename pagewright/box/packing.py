@@ -56,7 +56,7 @@ def packed_row(items, to, spread):
     natural = sum(widths)
     size = packed_size(natural, to, spread)
     setting = Setting(items, size - natural)
-    set_sizes = [width + change for width, change in zip(widths, setting.changes)]
+    set_sizes = [width + change for width, change in zip(widths, setting.increases)]
     height = max([0] + [height_in_row(item) for item in items])
     depth = max([0] + [depth_in_row(item) for item in items])
     return Box("row", (size, height, depth), items, natural, setting, set_sizes, places_along(set_sizes))
@@ -87,7 +87,7 @@ def packed_column(items, to, spread, depth_limit):
     natural = sum(taken) - depth
     size = packed_size(natural, to, spread)
     setting = Setting(items, size - natural)
-    set_sizes = [one + change for one, change in zip(taken, setting.changes)]
+    set_sizes = [one + change for one, change in zip(taken, setting.increases)]
     width = max([0] + [width_in_column(item) for item in items])
     places = [place + height_of_solid(item) for place, item in zip(places_along(set_sizes), items)]
     return Box("column", (width, size, depth), items, natural, setting, set_sizes, places)

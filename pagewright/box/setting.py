@@ -85,7 +85,7 @@ class Setting:
         if reached != 0:
             self.glue_order = order
         # By how much each item becomes greater.
-        self.changes = changes_for(amounts, order, reached)
+        self.increases = changes_for(amounts, order, reached)
 
     def beyond(self):
         """By how much the box is too full, below 0 if it lacks something."""

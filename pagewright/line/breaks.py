@@ -139,7 +139,7 @@ def check_beginning(measures, place):
 
 def places_of(row, rules):
     """The ascending tuple of the places of a row."""
-    return tuple(measures_of(row, rules).places)
+    return tuple(measures_of(row, rules).all_places)
 
 
 def next_places(row, rules, place):

@@ -95,9 +95,9 @@ class Measures:
     def __init__(self, row, rules):
         self._row = row
         self._rules = rules
-        self.end = len(row) - 1
-        self.places = [index for index in range(len(row)) if can_end(row, index, rules.hyphen)]
-        self._are_places = {place: True for place in self.places}
+        self.end_place = len(row) - 1
+        self.all_places = [index for index in range(len(row)) if can_end(row, index, rules.hyphen)]
+        self._are_places = {place: True for place in self.all_places}
         self._widths = sums_of([width_in_line(item) for item in row])
         self._stretches = [sums_of([stretch_in_line(item, order) for item in row]) for order in STRETCHES]
         self._shrinks = sums_of([shrink_in_line(item) for item in row])
@@ -120,7 +120,7 @@ class Measures:
         """The list of the places at which a line can end that begins behind a place, or behind -1."""
         start = self.start_behind(place)
         found = []
-        for other in self.places:
+        for other in self.all_places:
             if other >= start:
                 found.append(other)
                 if is_forced(self._row[other]):
@@ -133,7 +133,7 @@ class Measures:
 
     def is_beginning(self, value):
         """Whether the value is -1 or a place other than the end."""
-        return value != self.end and (self.is_place(value) or (is_int(value) and value == -1))
+        return value != self.end_place and (self.is_place(value) or (is_int(value) and value == -1))
 
     def is_place(self, value):
         """Whether the value is a place."""
@@ -193,7 +193,7 @@ class Measures:
             told = told - penalty ** 2
         if is_behind_part and self.is_part_at(end):
             told = told + self._rules.double
-        if is_behind_part and end == self.end:
+        if is_behind_part and end == self.end_place:
             told = told + self._rules.last
         return told
 

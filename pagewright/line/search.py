@@ -18,7 +18,7 @@ class StepSearch:
         # The node ahead on a way of least cost.
         self._ahead = {FIRST: None}
         self._nodes_at = {-1: [FIRST]}
-        for place in [-1] + measures.places[:-1]:
+        for place in [-1] + measures.all_places[:-1]:
             # All steps to a place come from places ahead of it.
             for node in list(self._nodes_at.get(place, ())):
                 self._go_on(node)
@@ -56,7 +56,7 @@ class StepSearch:
     def _last_nodes(self):
         """The dict from the numbers of lines of ways to the node of least cost at the end."""
         last = {}
-        for node in self._nodes_at.get(self._measures.end, []):
+        for node in self._nodes_at.get(self._measures.end_place, []):
             number = node[1]
             if number not in last or self._costs[node] < self._costs[last[number]]:
                 last[number] = node
@@ -91,7 +91,7 @@ def is_way_of(measures, value):
         if not measures.has_line(place, end):
             return False
         place = end
-    return place == measures.end
+    return place == measures.end_place
 
 
 def cost_of_way(measures, way):
@@ -145,7 +145,7 @@ def are_values(measures, value):
 def are_closed(measures, are_wrong_fine, costs):
     """Whether each step from a key of a dict leads to one, with at most the cost of this way to it."""
     for node, cost in costs.items():
-        if node[0] != measures.end:
+        if node[0] != measures.end_place:
             for further, most in measures.steps_from(node, cost, are_wrong_fine):
                 if further not in costs or costs[further] > most:
                     return False
@@ -164,7 +164,7 @@ def is_paper(measures, are_wrong_fine, looseness, value):
         return False
     last = {}
     for node, cost in pairs:
-        if node[0] == measures.end:
+        if node[0] == measures.end_place:
             last[node[1]] = min(cost, last.get(node[1], cost))
     return are_shown(measures, looseness, base, way, last)
 
@@ -182,7 +182,7 @@ def are_shown(measures, looseness, base, way, last):
 
 def is_no_paper(measures, value):
     """Whether the value is a paper of no way [11.11]."""
-    if not are_nodes(measures, value) or any([node[0] == measures.end for node in value]):
+    if not are_nodes(measures, value) or any([node[0] == measures.end_place for node in value]):
         return False
     known = {node: True for node in value}
     for node in value:

@@ -188,12 +188,18 @@ class Match:
     def __init__(self, arguments, seams, stop):
         self.arguments = arguments
         self.seams = seams
-        self.stop = stop
+        # Kept behind a property, as a page has a property `stop`, and such a name is stored by no class.
+        self._stop = stop
+
+    @property
+    def stop(self):
+        """The index behind it."""
+        return self._stop
 
     def __eq__(self, other):
         if not isinstance(other, Match):
             return False
-        return self.arguments == other.arguments and self.seams == other.seams and self.stop == other.stop
+        return self.arguments == other.arguments and self.seams == other.seams and self._stop == other._stop
 
 
 def match_macro(macro, row, start):

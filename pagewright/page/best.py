@@ -76,7 +76,7 @@ def is_paper_of(graph, value):
     if not isinstance(value, dict) or not all([is_node_like(node) and is_worth(value[node]) for node in value]):
         return False
     pages = graph.all_pages(None)
-    if len(value) != len(pages) or not all([node in value for node in pages]) or value[graph.last] != NO_COST:
+    if len(value) != len(pages) or not all([node in value for node in pages]) or value[graph.last_node] != NO_COST:
         return False
     for node, steps in pages.items():
         for target, step in steps:

@@ -33,12 +33,12 @@ class Graph:
         for item in items:
             self._column.put(item)
         self._end = len(items)
-        self.first = (0, (0, 0))
-        self.last = self.first
+        self.first_node = (0, (0, 0))
+        self.last_node = self.first_node
         if is_closed:
-            self.last = (self._end, (len(self._column.queue.notes), 0))
+            self.last_node = (self._end, (len(self._column.queue.all_notes), 0))
             if not self._column.has_solid_behind(0):
-                self.first = (self._end, (0, 0))
+                self.first_node = (self._end, (0, 0))
         self._sheets = {}
         self._costs = {}
 
@@ -60,7 +60,7 @@ class Graph:
     def pages_from(self, node):
         """The list of the pages that lead from a node: pairs of the node to which it leads, and of its stop and end."""
         index, cut = node
-        if node == self.last:
+        if node == self.last_node:
             return []
         pages = []
         for stop, target, sheet in self._sheets_from(index):
@@ -84,7 +84,7 @@ class Graph:
         """The dict from the nodes of the row to the lists of the pages from them; there may be a greatest number."""
         pages = {}
         many = 0
-        waiting = [self.first]
+        waiting = [self.first_node]
         while len(waiting) > 0:
             node = waiting.pop()
             if node not in pages:
@@ -97,18 +97,18 @@ class Graph:
 
     def least_worths(self, pages):
         """The dict from the nodes to the least costs of all ways from them to the last node."""
-        worths = {self.last: NO_COST}
+        worths = {self.last_node: NO_COST}
         # All pages lead to greater nodes.
         for node in reversed(list(pages)):
-            if node != self.last:
+            if node != self.last_node:
                 worths[node] = min([added(self.cost_of(node, step), worths[target]) for target, step in pages[node]])
         return {node: worths[node] for node in pages}
 
     def way_by(self, pages, worths):
         """A way whose cost is the worth of the first node."""
         way = []
-        node = self.first
-        while node != self.last:
+        node = self.first_node
+        while node != self.last_node:
             for target, step in pages[node]:
                 if added(self.cost_of(node, step), worths[target]) == worths[node]:
                     way.append(step)
@@ -120,13 +120,13 @@ class Graph:
         """The list of the nodes along a way, None if the value is none."""
         if not isinstance(value, tuple) or not all([is_node_like(step) for step in value]):
             return None
-        nodes = [self.first]
+        nodes = [self.first_node]
         for step in value:
             targets = [target for target, other in self.pages_from(nodes[-1]) if other == step]
             if len(targets) == 0:
                 return None
             nodes.append(targets[0])
-        if nodes[-1] != self.last:
+        if nodes[-1] != self.last_node:
             return None
         return nodes
 
@@ -143,10 +143,10 @@ class Graph:
     def least_number(self):
         """The least number of pages of a way without excess, None if there is none."""
         number = 0
-        known = {self.first: True}
-        layer = [self.first]
+        known = {self.first_node: True}
+        layer = [self.first_node]
         while len(layer) > 0:
-            if self.last in known:
+            if self.last_node in known:
                 return number
             number += 1
             further = {}

@@ -62,7 +62,7 @@ class Making:
         """An independent copy."""
         other = Making(self._style)
         many = self.column.notes_ahead(0)
-        other.column = Column(self.column.queue.notes[:many])
+        other.column = Column(self.column.queue.all_notes[:many])
         for item in list(self.column.members):
             other.column.put(item)
         other.first_item, other.first_note, other.index_of_cut = self._beginning()
@@ -116,7 +116,7 @@ class Making:
         page = made_page(self.column, self._style, places, (begin, end), self.mark_ahead)
         told = self._moved(page)
         number, index = end
-        waiting = self.column.queue.notes[number:self.column.notes_ahead(stop)]
+        waiting = self.column.queue.all_notes[number:self.column.notes_ahead(stop)]
         self.unset = tuple([note.members for note in waiting])
         if len(waiting) > 0:
             self.unset = (waiting[0].members[index:], *self.unset[1:])
@@ -138,9 +138,9 @@ class Making:
     def finish_all(self):
         """Ends the items, and returns the list of what is told of the last pages."""
         pages = []
-        if self.column.has_solid_behind(0) or len(self.column.queue.notes) > 0:
+        if self.column.has_solid_behind(0) or len(self.column.queue.all_notes) > 0:
             pages.extend(self.put_all(closing_items()))
-            while len(self.column.queue.notes) > 0:
+            while len(self.column.queue.all_notes) > 0:
                 pages.append(self._page_of_notes())
         return pages
 

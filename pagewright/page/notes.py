@@ -115,11 +115,11 @@ class Queue:
     """The notes of a column, in their order."""
 
     def __init__(self, notes):
-        self.notes = list(notes)
+        self.all_notes = list(notes)
         self._heights = [0]
         self._sizes = [0]
         self._refused = [0]
-        for note in self.notes:
+        for note in self.all_notes:
             self._measure(note)
 
     def _measure(self, note):
@@ -131,21 +131,21 @@ class Queue:
 
     def put(self, note):
         """Puts a note behind all others."""
-        self.notes.append(note)
+        self.all_notes.append(note)
         self._measure(note)
 
     def has_cut(self, cut):
         """Whether a pair of integers of at least 0 is a cut."""
         number, index = cut
-        if number >= len(self.notes):
-            return cut == (len(self.notes), 0)
-        return self.notes[number].has_index(index)
+        if number >= len(self.all_notes):
+            return cut == (len(self.all_notes), 0)
+        return self.all_notes[number].has_index(index)
 
     def next_cut(self, cut):
         """The least cut behind a cut at which not all notes are set."""
         number, index = cut
-        further = self.notes[number].next_index(index)
-        if further < len(self.notes[number].members):
+        further = self.all_notes[number].next_index(index)
+        if further < len(self.all_notes[number].members):
             return (number, further)
         return (number + 1, 0)
 
@@ -154,7 +154,7 @@ class Queue:
         number, index = cut
         cuts = []
         for other in range(number, many):
-            cuts.extend([(other, place) for place in self.notes[other].indices if (other, place) > cut])
+            cuts.extend([(other, place) for place in self.all_notes[other].indices if (other, place) > cut])
         if (many, 0) > cut:
             cuts.append((many, 0))
         return cuts
@@ -166,10 +166,10 @@ class Queue:
         if begin == end:
             return []
         if first == last:
-            return [(self.notes[first], index, stop)]
-        ends = [(self.notes[first], index, len(self.notes[first].members))]
+            return [(self.all_notes[first], index, stop)]
+        ends = [(self.all_notes[first], index, len(self.all_notes[first].members))]
         if stop > 0:
-            ends.append((self.notes[last], 0, stop))
+            ends.append((self.all_notes[last], 0, stop))
         return ends
 
     def _between(self, sums, begin, end):
@@ -200,18 +200,18 @@ class Queue:
         found = []
         for number in range(begin[0], end[0] + 1):
             one, other = 0, 0
-            if number < len(self.notes):
-                other = len(self.notes[number].members)
+            if number < len(self.all_notes):
+                other = len(self.all_notes[number].members)
             if number == begin[0]:
                 one = begin[1]
             if number == end[0]:
                 other = end[1]
             if number < end[0] or other > 0:
-                found.append(self.notes[number].piece(one, other))
+                found.append(self.all_notes[number].piece(one, other))
         return found
 
     def penalty_at(self, cut):
         """What it costs a page to end at a cut."""
-        if cut[0] == len(self.notes):
+        if cut[0] == len(self.all_notes):
             return 0
-        return self.notes[cut[0]].penalty_at(cut[1])
+        return self.all_notes[cut[0]].penalty_at(cut[1])

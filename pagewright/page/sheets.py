@@ -73,7 +73,7 @@ class Column:
             self._solids.append(index)
         if is_forced(item):
             self._forced.append(index)
-        self._ahead.append(len(self.queue.notes))
+        self._ahead.append(len(self.queue.all_notes))
         self._add(item)
 
     def _add(self, item):
@@ -157,7 +157,7 @@ class Column:
 
     def is_small(self):
         """Whether no page can have too many items, or too wide ones."""
-        parts = len(self.members) + len(self.queue.notes) + 2
+        parts = len(self.members) + len(self.queue.all_notes) + 2
         return parts <= MAX_ITEMS and parts + self._inner[-1] <= MOST_WITH_INNER and self._widest[-1] <= MAX_LENGTH
 
     def marks_between(self, start, stop):

@@ -49,8 +49,8 @@ class Document:
         lines = (*self._lines[:line], *come, *self._lines[line + gone:])
         check_lines(lines)
         old = self._outcome
-        begin = max([place for place in old.rests if place <= line])
-        engine = engine_from(old.rests[begin], self._styles, self._others[2], begin)
+        begin = max([place for place in old.held_at if place <= line])
+        engine = engine_from(old.held_at[begin], self._styles, self._others[2], begin)
         self._outcome, end = renewed(old, lines, begin, engine, line + len(come), len(come) - gone)
         self._lines = lines
         self._work += len(lines) - begin if end is None else end - begin
@@ -58,9 +58,9 @@ class Document:
 
     def _held_ahead(self, place):
         """What is held at a rest place."""
-        if not is_between(place, 0, len(self._lines)) or place not in self._outcome.rests:
+        if not is_between(place, 0, len(self._lines)) or place not in self._outcome.held_at:
             raise InvalidNumber(place)
-        return self._outcome.rests[place]
+        return self._outcome.held_at[place]
 
     def state_ahead(self, place):
         """The state at a rest place, which is compared by `==`."""
@@ -83,17 +83,17 @@ class Document:
     @property
     def pages(self):
         """The tuple of the pages."""
-        return self._outcome.boxes
+        return self._outcome.made_boxes
 
     @property
     def log(self):
         """The log."""
-        return self._outcome.log
+        return self._outcome.entries
 
     @property
     def rests(self):
         """The ascending tuple of the rest places."""
-        return tuple(sorted(self._outcome.rests))
+        return tuple(sorted(self._outcome.held_at))
 
     @property
     def work(self):
@@ -123,7 +123,7 @@ class Document:
         return self._styles == other._styles and self._others == other._others
 
     def __str__(self):
-        return f"document of {len(self._lines)} lines, {len(self._outcome.boxes)} pages"
+        return f"document of {len(self._lines)} lines, {len(self._outcome.made_boxes)} pages"
 
 
 def first_difference(one, other):

@@ -30,9 +30,9 @@ class Engine:
         self.scope = Scope()
         self.scope.restore(held.scope_state)
         self.lists = held.lists
-        self.log = []
-        self.boxes = []
-        self.is_stopped = held.is_stopped
+        self.entries = []
+        self.made_boxes = []
+        self.has_stopped = held.has_stopped
         self._limit = limit
         self._most_out = most_out
         self._most_open = most_open
@@ -42,7 +42,7 @@ class Engine:
         self.reader = Reader(self.scope.sorts)
         self.machine = Machine(self.scope, self.reader, limit)
         self.machine.conditions = held.conditions
-        self.machine.greatest_line = held.line
+        self.machine.greatest_line = held.last_line
         self.machine.lines_ahead = lines_ahead
         # Where tokens come from now: the machine above, or one for the tokens of the row register 90.
         self._present = self.machine
@@ -62,14 +62,14 @@ class Engine:
         """Ends the text."""
         self.reader.finish()
         self._run()
-        if not self.is_stopped:
+        if not self.has_stopped:
             self._attempt(("par", "par"))
-        if not self.is_stopped:
+        if not self.has_stopped:
             self._attempt(("finish", "ended"))
 
     def _run(self):
         """Does all deeds whose tokens have come."""
-        while not self.is_stopped:
+        while not self.has_stopped:
             mark = self.machine.mark()
             conditions = self.machine.conditions
             try:
@@ -87,7 +87,7 @@ class Engine:
 
     def _attempt(self, deed):
         """Does a deed; nothing of it, if it cannot be done."""
-        mark = (self.lists, len(self.boxes), len(self.log))
+        mark = (self.lists, len(self.made_boxes), len(self.entries))
         self._backup = None
         try:
             do(self, deed)
@@ -103,8 +103,8 @@ class Engine:
     def _go_back(self, mark):
         """Makes all that can be told of a press that has stopped as it was ahead of a deed."""
         self.lists, many_boxes, many_entries = mark
-        del self.boxes[many_boxes:]
-        del self.log[many_entries:]
+        del self.made_boxes[many_boxes:]
+        del self.entries[many_entries:]
         if self._backup is not None:
             self.scope.restore(self._backup)
 
@@ -115,16 +115,16 @@ class Engine:
 
     def _stop_for(self, word):
         """Stops for a fault."""
-        self.log.append(("fault", self.machine.greatest_line, word))
-        self.is_stopped = True
+        self.entries.append(("fault", self.machine.greatest_line, word))
+        self.has_stopped = True
 
     def pages_out(self):
         """How many pages have gone out."""
-        return self._many_ahead + len(self.boxes)
+        return self._many_ahead + len(self.made_boxes)
 
     def is_resting(self):
         """Whether no deed waits."""
-        return self.is_stopped or self.machine.is_empty()
+        return self.has_stopped or self.machine.is_empty()
 
     def held_now(self):
         """All that is held at a place of rest."""
@@ -132,7 +132,7 @@ class Engine:
             self._copy = self._builder.twin()
         return Held(
             self.scope.state, self.lists, self.machine.conditions, self._copy, self._last_depth, self.pages_out(),
-            self.machine.greatest_line, self.is_stopped,
+            self.machine.greatest_line, self.has_stopped,
         )
 
     def style_now(self):
@@ -247,7 +247,7 @@ class Engine:
     def _note_excess(self, box):
         """Notes in the log that a box is too full, if it is."""
         if box.excess > 0:
-            self.log.append(("full", self.machine.greatest_line, box.excess))
+            self.entries.append(("full", self.machine.greatest_line, box.excess))
 
     def enter_group(self, word):
         """Begins a group."""
@@ -308,9 +308,9 @@ class Engine:
         self.scope.assign("number", PAGE_NUMBER, self.pages_out() + 1, everywhere=True)
         row = self.scope.value_of("row", OUTPUT_ROW)
         if row == ():
-            self.boxes.append(page.box)
+            self.made_boxes.append(page.box)
         else:
-            self.boxes.append(self._output(page, row))
+            self.made_boxes.append(self._output(page, row))
 
     def _output(self, page, row):
         """The column that the tokens of a row make of a page."""

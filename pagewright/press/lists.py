@@ -43,7 +43,7 @@ class OpenList:
 class Held:
     """All that a press holds where it is at rest. It never changes, nor does the builder that it has."""
 
-    def __init__(self, scope_state, lists, conditions, builder, last_depth, many_out, line, is_stopped):
+    def __init__(self, scope_state, lists, conditions, builder, last_depth, many_out, last_line, has_stopped):
         self.scope_state = scope_state
         self.lists = lists
         self.conditions = conditions
@@ -52,12 +52,12 @@ class Held:
         self.last_depth = last_depth
         self.many_out = many_out
         # The index of the last line of which a token has come.
-        self.line = line
-        self.is_stopped = is_stopped
+        self.last_line = last_line
+        self.has_stopped = has_stopped
 
     def told_state(self):
         """What is compared of it [18.3]."""
-        if self.is_stopped:
+        if self.has_stopped:
             return (True,)
         return (
             False, self.scope_state, self.lists, self.conditions, self.builder.rest, self.last_depth, self.many_out,
@@ -67,5 +67,5 @@ class Held:
         """The same, where so many more pages have gone out, and a token of another line has come last."""
         return Held(
             self.scope_state, self.lists, self.conditions, self.builder, self.last_depth, self.many_out + more_out,
-            line, self.is_stopped,
+            line, self.has_stopped,
         )

@@ -61,26 +61,26 @@ class Press:
 
     def feed(self, piece):
         """Takes the next piece of the text, and returns the tuple of the boxes that go out."""
-        many = len(self._engine.boxes)
+        many = len(self._engine.made_boxes)
         self._engine.feed(piece)
-        return tuple(self._engine.boxes[many:])
+        return tuple(self._engine.made_boxes[many:])
 
     def finish(self):
         """Ends the text, and returns the tuple of the last boxes that go out."""
-        many = len(self._engine.boxes)
+        many = len(self._engine.made_boxes)
         self._engine.finish()
         self._is_finished = True
-        return tuple(self._engine.boxes[many:])
+        return tuple(self._engine.made_boxes[many:])
 
     @property
     def pages(self):
         """The tuple of all boxes that have gone out."""
-        return tuple(self._engine.boxes)
+        return tuple(self._engine.made_boxes)
 
     @property
     def log(self):
         """The tuple of all that was noted."""
-        return tuple(self._engine.log)
+        return tuple(self._engine.entries)
 
     @property
     def modes(self):
@@ -100,7 +100,7 @@ class Press:
     @property
     def is_stopped(self):
         """Whether the press has stopped for a fault."""
-        return self._engine.is_stopped
+        return self._engine.has_stopped
 
     @property
     def is_finished(self):
@@ -112,16 +112,16 @@ class Press:
         return self._engine.scope.value_of(kind, key)
 
     def __len__(self):
-        return len(self._engine.boxes)
+        return len(self._engine.made_boxes)
 
     def __iter__(self):
-        return iter(self._engine.boxes)
+        return iter(self._engine.made_boxes)
 
     def __contains__(self, x):
         return x in self.pages
 
     def __str__(self):
-        return f"press with {len(self._engine.boxes)} pages, in {self.modes[-1]}"
+        return f"press with {len(self._engine.made_boxes)} pages, in {self.modes[-1]}"
 
 
 def set_text(text, styles, name, page, *, limit=1000):
