@@ -225,7 +225,7 @@ class Forms(unittest.TestCase):
     def test_names_of_methods_are_those_of_no_attribute_elsewhere(self):
         _, methods, _, assigned = own_names()
         properties = {node.name for _, node in self.nodes(ast.FunctionDef) if node.decorator_list}
-        self.assertLessEqual((methods - properties) & assigned, {"number", "asked"})
+        self.assertLessEqual((methods - properties) & assigned, {"number"})
         classes = [node.name for _, node in self.nodes(ast.ClassDef)]
         self.assertEqual(len(classes), len(set(classes)))
 

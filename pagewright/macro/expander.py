@@ -26,7 +26,7 @@ def standard_meanings():
 
 def ask_token(machine):
     """The token that is asked for, or None."""
-    return token_in(machine.asked())
+    return token_in(machine.ask_entry())
 
 
 def take_token(machine):
@@ -45,13 +45,13 @@ def whole_expansion(machine):
     """All tokens that come, if no condition is left open."""
     tokens = []
     many = 0
-    entry = machine.asked()
+    entry = machine.ask_entry()
     while entry is not None:
         many += 1
         # More tokens are not kept, but another fault behind them comes first.
         if many <= MAX_ROW:
             tokens.append(entry[0])
-        entry = machine.asked()
+        entry = machine.ask_entry()
     if len(machine.conditions) > 0:
         raise Fault("ended")
     if many > MAX_ROW:

@@ -44,7 +44,7 @@ class Machine(Coming):
             return len(self.conditions) == 0 or self.conditions[-1][1] != "test"
         return word in SIMPLE or word in TESTS
 
-    def asked(self):
+    def ask_entry(self):
         """Asks for an entry; None if no tokens come any more."""
         entry = self.next_entry()
         while entry is not None and self.is_expandable(entry):
@@ -54,7 +54,7 @@ class Machine(Coming):
 
     def must_ask(self):
         """Asks for an entry that must come."""
-        entry = self.asked()
+        entry = self.ask_entry()
         if entry is None:
             raise Fault("ended")
         return entry

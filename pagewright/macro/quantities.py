@@ -75,7 +75,7 @@ def put_back(machine, entry):
 
 def pass_blank(machine):
     """Takes one blank token, if it comes."""
-    entry = machine.asked()
+    entry = machine.ask_entry()
     if not is_blank(entry):
         put_back(machine, entry)
 
@@ -99,7 +99,7 @@ def read_number(machine):
     while digit_of(entry) is not None:
         # However many digits come, a number that is too great already needs not become greater.
         size = min(10 * size + int(digit_of(entry)), NUMBER_END)
-        entry = machine.asked()
+        entry = machine.ask_entry()
     if not is_blank(entry):
         put_back(machine, entry)
     if size == NUMBER_END:
@@ -159,10 +159,10 @@ def read_order(machine):
     """Reads the rest of the name of a higher order, and one blank token, if it comes; the order."""
     read_signs(machine, "il")
     order = 1
-    entry = machine.asked()
+    entry = machine.ask_entry()
     while order < 3 and sign_of(entry) == "l":
         order += 1
-        entry = machine.asked()
+        entry = machine.ask_entry()
     if not is_blank(entry):
         put_back(machine, entry)
     return order
@@ -188,12 +188,12 @@ def read_amount(machine):
 
 def is_word_taken(machine, word):
     """Takes the signs of a word, if they come, behind blank tokens; otherwise all is put back."""
-    entries = [machine.asked()]
+    entries = [machine.ask_entry()]
     while is_blank(entries[-1]):
-        entries.append(machine.asked())
+        entries.append(machine.ask_entry())
     for index, sign in enumerate(word):
         if index > 0:
-            entries.append(machine.asked())
+            entries.append(machine.ask_entry())
         if sign_of(entries[-1]) != sign:
             machine.put_all([entry for entry in entries if entry is not None])
             return False

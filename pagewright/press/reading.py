@@ -283,7 +283,7 @@ def read_sign(token):
 
 def read_deed(machine):
     """The next deed, None if no tokens come any more."""
-    entry = machine.asked()
+    entry = machine.ask_entry()
     if entry is None:
         return None
     meaning = machine.meaning_of(entry[0])
